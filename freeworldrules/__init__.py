@@ -1,0 +1,1 @@
+"""Rules of rewriting that hold for all programs."""

@@ -1,0 +1,20 @@
+"""The kinds of objects that the document tells apart."""
+
+MOST_SIGNS = 8
+
+
+def is_list(thing):
+    """A tuple stands for a list everywhere; a string never does."""
+    return isinstance(thing, (list, tuple))
+
+
+def is_number(thing):
+    """True and False are no integers here, although Python counts them in."""
+    return isinstance(thing, int) and not isinstance(thing, bool)
+
+
+def is_name(thing):
+    """Tells whether a thing is a string of one to eight letters a to z."""
+    if not isinstance(thing, str) or not 1 <= len(thing) <= MOST_SIGNS:
+        return False
+    return all(["a" <= sign <= "z" for sign in thing])

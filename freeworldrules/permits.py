@@ -1,0 +1,115 @@
+"""Permits: what the letters of a ground may do."""
+
+from freeworldrules.errors import BadPermit, NoRow, UnlikeGrounds
+from freeworldrules.kinds import is_list
+
+
+class Permits:
+    """Permissions of the letters of a ground, with those that they bring."""
+
+    def __init__(self, ground, rows=()):
+        every = _all_rows(ground)
+        had = {row: True for row in _rows_always(ground)}
+        for row in _checked_rows(every, rows):
+            for brought in _with_brought(row):
+                had[brought] = True
+        self.ground = ground
+        self._rows = {row: True for row in every if row in had}
+
+    def rows(self):
+        """The list of the permissions, in order."""
+        return list(self._rows)
+
+    def without(self, row):
+        """The permits without a row and those that bring it, or NoRow."""
+        gone = _row_among(self._rows, row)
+        if gone is None or gone in _rows_always(self.ground):
+            raise NoRow(row)
+        return Permits(self.ground, [kept for kept in self._rows if gone not in _with_brought(kept)])
+
+    def within(self, other):
+        """Tells whether the other permits have all rows of these."""
+        _check_like(self, other)
+        return all([row in other for row in self._rows])
+
+    def joined(self, other):
+        """The permits with the rows of either."""
+        _check_like(self, other)
+        return Permits(self.ground, self.rows() + other.rows())
+
+    def common(self, other):
+        """The permits with the rows of both."""
+        _check_like(self, other)
+        return Permits(self.ground, [row for row in self._rows if row in other])
+
+    @staticmethod
+    def full(ground):
+        """The permits of a ground with all permissions."""
+        return Permits(ground, _all_rows(ground))
+
+    def __len__(self):
+        return len(self._rows)
+
+    def __contains__(self, row):
+        return _row_among(self._rows, row) is not None
+
+    def __iter__(self):
+        return iter(self._rows)
+
+    def __eq__(self, other):
+        return isinstance(other, Permits) and self.ground == other.ground and self._rows == other._rows
+
+
+def _all_rows(ground):
+    """The list of all permissions of a ground, in order."""
+    fixed = ground.fixed()
+    moving = [letter for letter in ground if letter not in fixed]
+    fails = [("fails", letter) for letter in ground]
+    stays = [("stays", letter) for letter in ground]
+    writes = [("writes", letter) for letter in moving]
+    shows = [("shows", one, other) for one in moving for other in moving]
+    shares = [("shares", one, other) for place, one in enumerate(moving) for other in moving[place + 1:]]
+    return fails + stays + writes + shows + shares
+
+
+def _rows_always(ground):
+    """The rows of all permits of a ground: a letter fails where a fact tells it."""
+    return [("fails", letter) for letter, _, end in ground.facts() if end[0] == "fail"]
+
+
+def _with_brought(row):
+    """The list of a row and those that it brings: who shows or shares something writes."""
+    if row[0] == "shows":
+        return [row, ("writes", row[1])]
+    if row[0] == "shares":
+        return [row, ("writes", row[1]), ("writes", row[2])]
+    return [row]
+
+
+def _checked_rows(every, rows):
+    if not is_list(rows):
+        raise BadPermit(0)
+    known = {row: True for row in every}
+    found = []
+    for index, thing in enumerate(rows):
+        row = _row_among(known, thing)
+        if row is None:
+            raise BadPermit(index)
+        found.append(row)
+    return found
+
+
+def _row_among(known, thing):
+    """The one of the known rows that a thing tells, shares in either order, or None."""
+    # things that are no strings may not even be asked for in a dict
+    if not is_list(thing) or not all([isinstance(part, str) for part in thing]):
+        return None
+    row = tuple(thing)
+    if len(row) == 3 and row[0] == "shares" and row not in known:
+        row = ("shares", row[2], row[1])
+    return row if row in known else None
+
+
+def _check_like(one, other):
+    if one.ground != other.ground:
+        raise UnlikeGrounds()
