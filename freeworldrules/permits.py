@@ -9,9 +9,9 @@ class Permits:
 
     def __init__(self, ground, rows=()):
         every = _all_rows(ground)
-        had = {row: True for row in _rows_always(ground)}
+        had = {row: True for row in rows_always(ground)}
         for row in _checked_rows(every, rows):
-            for brought in _with_brought(row):
+            for brought in with_brought(row):
                 had[brought] = True
         self.ground = ground
         self._rows = {row: True for row in every if row in had}
@@ -23,9 +23,9 @@ class Permits:
     def without(self, row):
         """The permits without a row and those that bring it, or NoRow."""
         gone = _row_among(self._rows, row)
-        if gone is None or gone in _rows_always(self.ground):
+        if gone is None or gone in rows_always(self.ground):
             raise NoRow(row)
-        return Permits(self.ground, [kept for kept in self._rows if gone not in _with_brought(kept)])
+        return Permits(self.ground, [kept for kept in self._rows if gone not in with_brought(kept)])
 
     def within(self, other):
         """Tells whether the other permits have all rows of these."""
@@ -72,12 +72,12 @@ def _all_rows(ground):
     return fails + stays + writes + shows + shares
 
 
-def _rows_always(ground):
+def rows_always(ground):
     """The rows of all permits of a ground: a letter fails where a fact tells it."""
     return [("fails", letter) for letter, _, end in ground.facts() if end[0] == "fail"]
 
 
-def _with_brought(row):
+def with_brought(row):
     """The list of a row and those that it brings: who shows or shares something writes."""
     if row[0] == "shows":
         return [row, ("writes", row[1])]

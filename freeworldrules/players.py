@@ -1,0 +1,110 @@
+"""Players: terms that stand for letters."""
+
+from freeworldrules.checks import check_ground
+from freeworldrules.errors import BadPlayer, BadTerm, Clash
+from freeworldrules.kinds import is_list, is_name
+from freeworldrules.names import bound_in, letters_in
+from freeworldrules.permits import Permits
+from freeworldrules.terms import checked, checked_within, terms_in, with_terms
+from freeworldrules.worlds import all_worlds
+
+
+def played(ground, term, players):
+    """The term with the bodies of players, within binds of their names, for the uses of their letters."""
+    whole = checked(ground, term)
+    known = _checked_players(ground, players)
+    _check_clash(whole, known)
+    return _played(whole, known)
+
+
+def permits_of(ground, permits, players):
+    """The permits that all programs within permits keep if the players stand for their letters."""
+    check_ground(ground, permits)
+    known = _checked_players(ground, players)
+    fixed = ground.fixed()
+    moving = [letter for letter in ground if letter not in fixed]
+    within = {letter: letters_in(known[letter][1]) if letter in known else [letter] for letter in moving}
+    return Permits(ground, _ends_of(permits, known)
+                   + [("writes", letter) for letter in moving if _do_write(permits, within[letter])]
+                   + [("shows", one, other) for one in moving for other in moving
+                      if _do_show(permits, within[one], within[other])]
+                   + [("shares", one, other) for one in moving for other in moving
+                      if one != other and _do_share(permits, within[one], within[other])])
+
+
+def _checked_players(ground, players):
+    """The dict from the letters of players to their names and bodies."""
+    if not isinstance(players, dict):
+        raise BadPlayer(None)
+    known = {}
+    for key, player in players.items():
+        if key not in ground or key in ground.fixed():
+            raise BadPlayer(key)
+        body = _body_or_none(ground, player, ground.parts_of(key))
+        if body is None:
+            raise BadPlayer(key)
+        known[key] = (tuple(player[0]), body)
+    return known
+
+
+def _body_or_none(ground, player, many):
+    """The body of a player of a letter with so many parts, None for what is no such player."""
+    if not is_list(player) or len(player) != 2 or not _are_names(player[0]) or len(player[0]) != many:
+        return None
+    names = tuple(player[0])
+    try:
+        return checked_within(ground, player[1], names, ())
+    except BadTerm:
+        return None
+
+
+def _are_names(thing):
+    """Tells whether a thing is a list of different names."""
+    if not is_list(thing) or not all([is_name(name) for name in thing]):
+        return False
+    return all([name not in thing[:place] for place, name in enumerate(thing)])
+
+
+def _check_clash(term, known):
+    for letter, player in known.items():
+        taken = bound_in(term)
+        for another, other in known.items():
+            if another != letter:
+                taken.extend([*other[0], *bound_in(other[1])])
+        for name in player[0]:
+            if name in taken:
+                raise Clash(name)
+
+
+def _played(term, known):
+    terms = [_played(part, known) for part in terms_in(term)]
+    if term[0] != "use" or term[1] not in known:
+        return with_terms(term, terms)
+    names, whole = known[term[1]]
+    for name, part in reversed(list(zip(names, terms))):
+        whole = ("bind", name, part, whole)
+    return whole
+
+
+def _ends_of(permits, known):
+    """The permissions to fail and to stay, if the players stand for their letters."""
+    rows = [row for row in permits.rows() if row[0] in ("fails", "stays") and row[1] not in known]
+    for letter, player in known.items():
+        # values of letters that are none, and so have no permission
+        values = {name: ("gave", str(place), 1) for place, name in enumerate(player[0])}
+        ends = [world.ends[0][0] for world in all_worlds(permits, [player[1]], values)]
+        rows.extend([(word, letter) for word in ("fails", "stays") if word in ends])
+    return rows
+
+
+def _do_write(permits, letters):
+    return any([("writes", letter) in permits for letter in letters])
+
+
+def _do_show(permits, letters, others):
+    return any([("shows", one, other) in permits for one in letters for other in others])
+
+
+def _do_share(permits, letters, others):
+    return any([("shares", one, other) in permits or one == other and ("writes", one) in permits
+                for one in letters for other in others])
