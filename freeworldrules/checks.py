@@ -28,7 +28,7 @@ def is_bit(thing):
 
 def check_relation(relation):
     """Raises BadRelation for what is no word of a relation."""
-    if not isinstance(relation, str) or relation not in RELATIONS:
+    if relation not in RELATIONS:
         raise BadRelation(relation)
 
 

@@ -24,11 +24,10 @@ def _is_matched(ground, side, term, found):
             return found[side[1]] == term
         found[side[1]] = term
         return is_closed(term)
-    behind, terms = terms_in(side), terms_in(term)
-    # all but the terms within has to be as it stands
-    if len(behind) != len(terms) or with_terms(side, ()) != with_terms(term, ()):
+    # all but the terms within has to be as it stands; then there are as many of these
+    if with_terms(side, ()) != with_terms(term, ()):
         return False
-    return all([_is_matched(ground, part, one, found) for part, one in zip(behind, terms)])
+    return all([_is_matched(ground, part, one, found) for part, one in zip(terms_in(side), terms_in(term))])
 
 
 def _stands_for_any(ground, side):

@@ -29,11 +29,9 @@ def is_closed(term):
 
 
 def new_name(taken):
-    """The first name, by length and then by the alphabet, that is none of the taken ones."""
-    place = 0
-    while _name_at(place) in taken:
-        place += 1
-    return _name_at(place)
+    """The first name of one sign, or else of two, that is none of the taken ones."""
+    names = list(SIGNS) + [one + other for one in SIGNS for other in SIGNS]
+    return [name for name in names if name not in taken][0]
 
 
 def _unbound(term):
@@ -45,12 +43,3 @@ def _unbound(term):
         bound = term[1] if term[0] == "bind" and place == 1 else None
         found.extend([name for name in _unbound(part) if name != bound])
     return found
-
-
-def _name_at(place):
-    """The name at a place among all: a to z, then aa, ab and so on."""
-    name = SIGNS[place % len(SIGNS)]
-    while place >= len(SIGNS):
-        place = place // len(SIGNS) - 1
-        name = SIGNS[place % len(SIGNS)] + name
-    return name

@@ -21,14 +21,12 @@ def permits_of(ground, permits, players):
     """The permits that all programs within permits keep if the players stand for their letters."""
     check_ground(ground, permits)
     known = _checked_players(ground, players)
-    fixed = ground.fixed()
-    moving = [letter for letter in ground if letter not in fixed]
-    within = {letter: letters_in(known[letter][1]) if letter in known else [letter] for letter in moving}
+    within = {letter: letters_in(known[letter][1]) if letter in known else [letter] for letter in ground}
     return Permits(ground, _ends_of(permits, known)
-                   + [("writes", letter) for letter in moving if _do_write(permits, within[letter])]
-                   + [("shows", one, other) for one in moving for other in moving
+                   + [("writes", letter) for letter in ground if _do_write(permits, within[letter])]
+                   + [("shows", one, other) for one in ground for other in ground
                       if _do_show(permits, within[one], within[other])]
-                   + [("shares", one, other) for one in moving for other in moving
+                   + [("shares", one, other) for one in ground for other in ground
                       if one != other and _do_share(permits, within[one], within[other])])
 
 

@@ -109,6 +109,22 @@ class Steps(unittest.TestCase):
         self.assertEqual(book.steps(plus(X, Y)), [])
         self.assertEqual(book.steps(plus(f(A), f(A))), [("r", (), then(f(A), plus(f(A), f(A))))])
 
+        # also where it would end alike for unlike ones
+        book = book_of(NO, r=(then(X, X, A), A))
+        self.assertEqual(book.steps(then(A, B, A)), [])
+        self.assertEqual(book.steps(then(X, Y, A)), [])
+        self.assertEqual(book.steps(then(f(B), f(B), A)), [("r", (), A)])
+
+    def test_values_and_names_like_a_letter(self):
+        value, name, fail = ("value", "x"), ("name", "x"), ("fail", "x")
+        book = book_of(NO, r=(then(X, value), value), s=(("try", fail, X), then(("try", fail, A), X)),
+                       t=(("bind", "x", Y, ("not", ("not", ("not", name)))), ("bind", "x", Y, ("not", name))))
+        self.assertEqual(book.steps(then(A, value)), [("r", (), value)])
+        self.assertEqual(book.steps(then(A, A)), [])
+        self.assertEqual(book.steps(("try", fail, B)), [("s", (), then(("try", fail, A), B))])
+        self.assertEqual(book.steps(("bind", "x", K, ("not", ("not", ("not", name))))),
+                         [("t", (), ("bind", "x", K, ("not", name)))])
+
     def test_letters_stand_for_any_term(self):
         book = book_of(NO, r=(("if", X, Y, Y), then(X, Y)))
         for one in (A, X, f(Y), ("bind", "v", A, V), ("if", X, A, B), ("fail", "e"), K):
@@ -152,6 +168,12 @@ class Steps(unittest.TestCase):
         # in a bind that it stands in itself, and beside it
         whole = ("not", ("not", ("not", ("bind", "v", A, V))))
         self.assertEqual(book.steps(whole), [("r", (), ("not", ("bind", "v", A, V)))])
+        # the name in what a bind names is that of the bind around it
+        for within in (("bind", "v", V, B), ("bind", "w", A, ("and", V, W)), f(V), plus(B, V), ("bind", "w", B, V)):
+            self.assertEqual(book.steps(("bind", "v", A, ("not", ("not", ("not", within))))), [])
+        self.assertEqual(book.steps(("bind", "plus", A, ("not", ("not", ("not", plus(B, ("name", "plus"))))))), [])
+        again = ("bind", "v", A, ("bind", "v", V, V))
+        self.assertEqual(book.steps(("not", ("not", ("not", again)))), [("r", (), ("not", again))])
         mixed = ("bind", "v", A, ("not", ("not", ("not", ("bind", "w", B, plus(V, W))))))
         self.assertEqual(book.steps(mixed), [])
 

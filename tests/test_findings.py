@@ -70,6 +70,14 @@ class Failures(unittest.TestCase):
         self.assertEqual(failures(GROUND, within, term), [("fail", "aa"), ("fail", "b"), ("fail", "zz"), ("failed", "z")])
         self.assertEqual(failures(GROUND, within, then(X, Y, z(A))), [("failed", "y"), ("failed", "x"), ("failed", "z")])
 
+        # not as they are met
+        self.assertEqual(failures(GROUND, NO, ("if", X, ("fail", "zz"), ("if", Y, ("fail", "b"), ("fail", "aa")))),
+                         [("fail", "aa"), ("fail", "b"), ("fail", "zz")])
+
+    def test_a_failure_with_the_name_of_a_letter(self):
+        self.assertEqual(failures(GROUND, FULL, ("fail", "x")), [("fail", "x")])
+        self.assertEqual(failures(GROUND, permits(("fails", "x")), then(X, ("fail", "y"))), [("fail", "y"), ("failed", "x")])
+
     def test_each_once(self):
         within = permits(("fails", "x"), ("shows", "y", "x"))
         self.assertEqual(failures(GROUND, within, then(X, Y, X, ("if", X, ("fail", "e"), ("fail", "e")))),
@@ -145,6 +153,12 @@ class Needless(unittest.TestCase):
         # all names in the term and true and false are true or not alike, but for one that is another one
         self.assertEqual(needless(GROUND, NO, ("if", T, A, B)), [(2,)])
         ground = Ground({"k": 1}, ["k"], [], [("k", (name,), ("value", "a")) for name in ("a", "true", "false")])
+        self.assertEqual(needless(ground, Permits(ground), ("use", "k", (A,))), [])
+        self.assertEqual(needless(ground, Permits(ground), ("then", ("use", "k", (A,)), A)), [(0,), (0, 0)])
+
+    def test_a_value_that_no_fact_has(self):
+        names = "abcdefghijklmnopqrstuvwxyz"
+        ground = Ground({"k": 1}, ["k"], [], [("k", (name,), ("value", "z")) for name in [*names, "true", "false"]])
         self.assertEqual(needless(ground, Permits(ground), ("use", "k", (A,))), [])
         self.assertEqual(needless(ground, Permits(ground), ("then", ("use", "k", (A,)), A)), [(0,), (0, 0)])
 

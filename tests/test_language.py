@@ -134,6 +134,36 @@ class Code(unittest.TestCase):
             for text in without_docstrings(tree):
                 self.assertNotRegex(text, r"\b(typing|enum|Enum|Generic|Protocol|ABC)\b|dataclass|overload", name)
 
+    def test_l2_nothing_that_an_iterated_class_with_len_bars(self):
+        for name, node in nodes(ast.ImportFrom):
+            self.assertNotIn("itertools", node.module, name)
+
+    def test_l18_no_name_is_a_method_and_an_attribute(self):
+        methods = {part.name for _, node in nodes(ast.ClassDef) for part in node.body if isinstance(part, ast.FunctionDef)}
+        stored = {node.attr for _, node in nodes(ast.Attribute) if isinstance(node.ctx, ast.Store)}
+        self.assertEqual(methods & stored, set())
+        read = {node.attr for _, node in nodes(ast.Attribute) if isinstance(node.ctx, ast.Load)}
+        self.assertEqual(read - stored - methods - ALLOWED_METHODS, set())
+
+    def test_l23_iterated_at_once(self):
+        at_once = []
+        for _, node in nodes(ast.For, ast.comprehension):
+            at_once.append(node.iter)
+        for _, node in nodes(ast.Call):
+            if isinstance(node.func, ast.Name) and node.func.id in ("list", "tuple", "dict", "sorted", "sum", "reversed"):
+                at_once += node.args[:1]
+        for name, node in nodes(ast.Call):
+            called = node.func.id if isinstance(node.func, ast.Name) else node.func.attr
+            if called in ("zip", "enumerate", "range", "reversed", "items", "values", "keys"):
+                self.assertIn(node, at_once, (name, node.lineno))
+            if called == "reversed":
+                self.assertNotIn(getattr(getattr(node.args[0], "func", None), "id", None), ("zip", "enumerate"), name)
+
+    def test_l24_no_sets(self):
+        self.assertEqual(nodes(ast.Set, ast.SetComp), [])
+        for name, node in nodes(ast.Name):
+            self.assertNotIn(node.id, ("set", "frozenset"), name)
+
     def test_l25_methods(self):
         own = {node.name for _, node in nodes(ast.FunctionDef)}
         for name, node in nodes(ast.Call):

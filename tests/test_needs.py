@@ -172,7 +172,7 @@ class ThreeLetters(unittest.TestCase):
         for one, other in self.rules:
             for relation in RELATIONS:
                 least, most = breaking(self.ground, one, other, relation), weakest(self.ground, one, other, relation)
-                self.check_each(full, one, other, relation, least, most)
+                self.check_each_of(self.ground, one, other, least, most, relation)
                 for _ in range(15):
                     rows = [row for row in full if chance.random() < chance.choice((0.1, 0.3, 0.9))]
                     if most and chance.random() < 0.6:
@@ -182,18 +182,28 @@ class ThreeLetters(unittest.TestCase):
                     self.assertIs(any(permits.within(p) for p in most), good)
                     self.assertIs(any(p.within(permits) for p in least), not good)
 
-    def check_each(self, full, one, other, relation, least, most):
+    def check_each_of(self, ground, one, other, least, most, relation="same"):
         for permits in least:
-            self.assertFalse(holds(self.ground, permits, one, other, relation))
+            self.assertFalse(holds(ground, permits, one, other, relation))
             for row in permits:
-                self.assertTrue(holds(self.ground, permits.without(row), one, other, relation))
+                self.assertTrue(holds(ground, permits.without(row), one, other, relation))
         for permits in most:
-            self.assertTrue(holds(self.ground, permits, one, other, relation))
-            for row in full:
+            self.assertTrue(holds(ground, permits, one, other, relation))
+            for row in Permits.full(ground):
                 if row not in permits:
-                    more = permits.joined(Permits(self.ground, [row]))
-                    self.assertFalse(holds(self.ground, more, one, other, relation))
+                    more = permits.joined(Permits(ground, [row]))
+                    self.assertFalse(holds(ground, more, one, other, relation))
         self.assertEqual((least, most), (in_order(least), in_order(most)))
+
+    def test_two_that_share_what_the_third_sees(self):
+        # what is left of y and z is alike, but x saw them the other way round
+        ground = Ground({"x": 0, "y": 0, "z": 0})
+        z = ("use", "z", ())
+        one, other = then(Y, z, ("bind", "v", X, then(Y, ("name", "v")))), then(z, Y, X)
+        rows = [("writes", "y"), ("writes", "z"), ("shows", "y", "x"), ("shows", "z", "x"), ("shares", "y", "z")]
+        least = breaking(ground, one, other)
+        self.assertIn(rows, [permits.rows() for permits in least])
+        self.check_each_of(ground, one, other, least, weakest(ground, one, other))
 
     def test_at_the_limits(self):
         z = ("use", "z", (("use", "q", (A,)),))
