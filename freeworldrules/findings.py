@@ -48,7 +48,7 @@ def counts(ground, permits, term):
     worlds = _worlds(ground, permits, term)
     found = {}
     for letter in ground:
-        many = [_times(world.runs[0], letter) for world in worlds]
+        many = [world.runs[0].times(letter) for world in worlds]
         found[letter] = (min(many), max(many))
     return found
 
@@ -57,7 +57,7 @@ def never_more(ground, permits, one, other):
     """Tells whether in each way of both no letter is evaluated more often in the one than in the other."""
     check_ground(ground, permits)
     worlds = all_worlds(permits, [checked(ground, one), checked(ground, other)], {})
-    return all([_times(world.runs[0], letter) <= _times(world.runs[1], letter)
+    return all([world.runs[0].times(letter) <= world.runs[1].times(letter)
                 for world in worlds for letter in ground])
 
 
@@ -68,11 +68,6 @@ def _worlds(ground, permits, term):
 
 def _ends(ground, permits, term):
     return [world.ends[0] for world in _worlds(ground, permits, term)]
-
-
-def _times(run, letter):
-    """How often a letter was evaluated in a run."""
-    return len([met for met in run.met if met[0] == letter])
 
 
 def _names_to_try(ground, term):

@@ -1,14 +1,18 @@
-"""Permits as integers, a bit for each permission of a ground, and the least ones among many of them."""
+"""Permits as integers, a bit for each permission of a ground."""
 
+from freeworldrules.leasts import least_meeting
 from freeworldrules.permits import Permits, rows_always, with_brought
+from freeworldrules.settings import Setting
 
 
 class Places:
     """The places of all permissions of a ground, in order."""
 
     def __init__(self, ground):
+        full = Permits.full(ground)
         self.ground = ground
-        self.every = Permits.full(ground).rows()
+        self.setting = Setting(full)
+        self.every = full.rows()
         self.place_of = {row: place for place, row in enumerate(self.every)}
         # what permits always have
         self.always = sum([1 << self.place_of[row] for row in self.every if row in rows_always(ground)])
@@ -27,9 +31,11 @@ class Places:
         ordered = sorted(rows, key=lambda places: (len(places), places))
         return [Permits(self.ground, [self.every[place] for place in places]) for places in ordered]
 
+    def greatest_without(self, masks):
+        """The masks of the greatest permits that have none of the masks."""
+        every = (1 << len(self.every)) - 1
+        return [every - gone for gone in least_meeting(masks, lambda mask: self._gone_with(mask))]
 
-def with_least(masks, mask):
-    """Masks, none of which is within another one, and one more: the least ones among them."""
-    if any([mask & one == one for one in masks]):
-        return masks
-    return [one for one in masks if mask & one != mask] + [mask]
+    def _gone_with(self, mask):
+        """What can lack of a mask, a permission with those that bring it; what permits always have cannot."""
+        return [self.bringing[row] for row in self.rows_in(mask) if self.brought[row] & self.always == 0]

@@ -3,13 +3,13 @@
 from freeworldrules.checks import check_relation
 from freeworldrules.errors import BadTerm
 from freeworldrules.kinds import is_list
-from freeworldrules.masks import Places, with_least
+from freeworldrules.leasts import is_any_within, least_masks
+from freeworldrules.masks import Places
 from freeworldrules.permits import Permits
 from freeworldrules.relations import related
 from freeworldrules.rules import holds
 from freeworldrules.terms import checked, checked_within
-from freeworldrules.undecided import Undecided, undecided
-from freeworldrules.worlds import bits_behind
+from freeworldrules.undecided import undecided_world
 
 
 def breaking(ground, one, other, relation="same"):
@@ -23,8 +23,7 @@ def weakest(ground, one, other, relation="same"):
     """The list of the greatest permits by which two terms have the relation."""
     terms = _checked_rule(ground, one, other, relation)
     places = Places(ground)
-    every = (1 << len(places.every)) - 1
-    return places.in_order([every - gone for gone in _least_gone(places, _breaking(places, terms, relation))])
+    return places.in_order(places.greatest_without(_breaking(places, terms, relation)))
 
 
 def needs(ground, one, other, relation="same"):
@@ -51,7 +50,7 @@ def compared(ground, pairs, relation="same"):
     broken = [_breaking(places, terms, relation) for terms in rules]
     # a rule holds by all permits that have none of the breaking ones
     return [(i, j) for i in range(len(rules)) for j in range(len(rules))
-            if i != j and all([_is_any_within(broken[i], mask) for mask in broken[j]])]
+            if i != j and all([is_any_within(broken[i], mask) for mask in broken[j]])]
 
 
 def _checked_rule(ground, one, other, relation):
@@ -73,60 +72,15 @@ def _checked_rules(ground, pairs):
 
 def _breaking(places, terms, relation):
     """The masks of the least permits by which the terms do not have the relation."""
-    setting = undecided(places.ground)
-    found = []
-    bits = ()
-    while bits is not None:
-        world = Undecided(setting, bits)
-        for term in terms:
-            world.live(term, {})
-        let = places.always
-        for _, row in world.let_rows():
-            let = let | places.brought[row]
-        for row in _rows_to_break(world, relation):
-            found = with_least(found, let if row is None else let | places.brought[row])
-        bits = bits_behind(_bits_to_known(places, world, found))
-    return found
+    return least_masks(lambda bits: undecided_world(places, terms, bits),
+                       lambda world: _masks_to_break(places, world, relation))
 
 
-def _rows_to_break(world, relation):
-    """The permissions any of which breaks a rule on this way besides those let already; None if these do."""
+def _masks_to_break(places, world, relation):
+    """The masks of what has to be let to come this way and break a rule on it."""
     one, other = world.ends
     if not related(relation, (one[0], one[1], ()), (other[0], other[1], ())):
-        return [None]
+        return [world.let()]
     if related(relation, (one[0], one[1], ()), (other[0], other[1], None)):
         return []
-    return world.left_unlike()
-
-
-def _bits_to_known(places, world, found):
-    """The bits of a way up to the first one behind which permits that break already are let."""
-    let = places.always
-    many = 0
-    for place, row in world.let_rows():
-        if _is_any_within(found, let):
-            return world.asked_bits()[:many]
-        let = let | places.brought[row]
-        many = place + 1
-    if _is_any_within(found, let):
-        return world.asked_bits()[:many]
-    return world.asked_bits()
-
-
-def _is_any_within(masks, mask):
-    return any([mask & one == one for one in masks])
-
-
-def _least_gone(places, broken):
-    """The masks of the fewest permissions, with those that bring them, that lack in permits which do not break."""
-    gone = [0]
-    for mask in broken:
-        behind = [one for one in gone if one & mask != 0]
-        # what permits always have cannot lack
-        rows = [row for row in places.rows_in(mask) if places.brought[row] & places.always == 0]
-        for row in rows:
-            for one in gone:
-                if one & mask == 0:
-                    behind = with_least(behind, one | places.bringing[row])
-        gone = behind
-    return gone
+    return [world.let() | places.brought[row] for row in world.left_unlike()]

@@ -1,5 +1,6 @@
 """Rules: whether two terms are related in all ways, and what parts them."""
 
+from freeworldrules.bits import least_bits
 from freeworldrules.checks import check_ground, check_relation, is_bit
 from freeworldrules.errors import BadTerm
 from freeworldrules.kinds import is_list
@@ -30,9 +31,8 @@ def holds(ground, permits, one, other, relation="same"):
 def parting(ground, permits, one, other, relation="same"):
     """The least bits by which two terms do not have the relation, or None."""
     terms = _checked_rule(ground, permits, one, other, relation)
-    found = [_without_last_zeros(world.asked_bits()) for world in all_worlds(permits, terms, {})
-             if not related(relation, world.ends[0], world.ends[1])]
-    return min(found, key=lambda bits: (sum(bits), len(bits), bits), default=None)
+    return least_bits([world.asked_bits() for world in all_worlds(permits, terms, {})
+                       if not related(relation, world.ends[0], world.ends[1])])
 
 
 def is_parting(ground, permits, one, other, relation, thing):
@@ -69,7 +69,7 @@ def _class_of(permits, known, found, term):
 
 
 def _part_never(permits, terms, relation):
-    return first_world(permits, terms, lambda ends: not related(relation, ends[0], ends[1])) is None
+    return first_world(permits, terms, lambda world: not related(relation, world.ends[0], world.ends[1])) is None
 
 
 def _checked_rule(ground, permits, one, other, relation):
@@ -77,11 +77,3 @@ def _checked_rule(ground, permits, one, other, relation):
     terms = [checked(ground, one), checked(ground, other)]
     check_relation(relation)
     return terms
-
-
-def _without_last_zeros(bits):
-    """The bits that lead the same way, as further ones are 0."""
-    kept = list(bits)
-    while len(kept) > 0 and kept[-1] == 0:
-        kept.pop()
-    return tuple(kept)

@@ -19,7 +19,7 @@ class Setting:
         self.known_ends = {}
         for letter, names, end in ground.facts():
             values = tuple([("value", name) for name in names])
-            self.known_ends[(letter, self.in_either_order(letter, values))] = _as_outcome(end)
+            self.known_ends[(letter, self.in_either_order(letter, values))] = as_outcome(end)
 
     def in_either_order(self, letter, values):
         """The values as they are told apart: for a commuting letter exchanged ones are the same."""
@@ -60,7 +60,8 @@ def _pairs_among(pairs, letters):
     return [pair for pair in pairs if pair[0] in letters and pair[1] in letters]
 
 
-def _as_outcome(end):
+def as_outcome(end):
+    """The end that a fact tells, as parts end in runs."""
     if end[0] == "fail":
         return ("fails", end)
     return ("value", end)

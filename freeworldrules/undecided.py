@@ -1,38 +1,40 @@
 """The free world of all permits at once: what these let is asked of the bits, too."""
 
-from freeworldrules.permits import Permits
-from freeworldrules.settings import Setting, numbers_of, pairs_of
+from freeworldrules.settings import numbers_of, pairs_of
 from freeworldrules.worlds import World
 
 
 class Undecided(World):
     """A world in which it is asked which letters show and share, where a number hangs on it."""
 
-    def __init__(self, setting, bits):
-        World.__init__(self, setting, bits)
+    def __init__(self, places, bits):
+        World.__init__(self, places.setting, bits)
+        self.places = places
         # from letters and values to the evaluations with them: their number, and those ahead of each
         self.first_met = {}
 
     def number_of(self, run, letter, values):
-        """The number of the evaluation that a run comes to."""
-        like = self.first_met.setdefault((letter, self.setting.in_either_order(letter, values)), [])
-        for number, recent in like:
-            if not self._is_seen(letter, recent, run.recent):
-                return number
-        number = self.new_number(letter)
-        like.append((number, run.recent))
+        """The number of the evaluation that a run comes to, which is noted in the run."""
+        number = self._number_behind(letter, self.setting.in_either_order(letter, values), run.recent)
+        # what the letter can see is not decided as a whole
+        run.met.append((letter, number, values, ()))
         return number
 
-    def let_rows(self):
-        """The permissions that were needed to come this way, each with the place of its bit."""
-        found = []
+    def grown(self):
+        """The masks of what has to be let to come so far, each with the number of bits behind which it is."""
+        let = self.places.always
+        found = [(0, let)]
         for place, question in enumerate(self.answers):
             # a letter may always fail and stay here: what does neither needs no permission
-            if self.answers[question] == 1 and question[0] in ("fails", "stays"):
-                found.append((place, question[:2]))
-            if self.answers[question] == 1 and question[0] in ("shows", "shares"):
-                found.append((place, question))
+            if self.answers[question] == 1 and question[0] != "true":
+                row = question[:2] if question[0] in ("fails", "stays") else question
+                let = let | self.places.brought[row]
+                found.append((place + 1, let))
         return found
+
+    def let(self):
+        """The mask of what has to be let to come this way."""
+        return self.grown()[-1][1]
 
     def left_unlike(self):
         """The permissions to write and share by which two runs leave something else."""
@@ -42,6 +44,15 @@ class Undecided(World):
         shares = [("shares", *pair) for pair in self.setting.sharing if pairs_of(pair, one) != pairs_of(pair, other)]
         # where it was denied that two share, the numbers are those of permits without it
         return [row for row in writes + shares if self.answers.get(row) != 0]
+
+    def _number_behind(self, letter, values, recent):
+        like = self.first_met.setdefault((letter, values), [])
+        for number, before in like:
+            if not self._is_seen(letter, before, recent):
+                return number
+        number = self.new_number(letter)
+        like.append((number, recent))
+        return number
 
     def _recent_behind(self, place):
         return [] if self.ends[place][0] == "stays" else self.runs[place].recent
@@ -66,6 +77,9 @@ class Undecided(World):
         return True
 
 
-def undecided(ground):
-    """The setting of a ground for worlds that are not decided."""
-    return Setting(Permits.full(ground))
+def undecided_world(places, terms, bits):
+    """The world of a ground in which terms are run one behind the other by bits."""
+    world = Undecided(places, bits)
+    for term in terms:
+        world.live(term, {})
+    return world

@@ -1,5 +1,6 @@
 """The free world: runs of terms, the questions that they ask, and how they end."""
 
+from freeworldrules.bits import bits_behind
 from freeworldrules.settings import Setting
 
 TRUE = ("value", "true")
@@ -39,6 +40,10 @@ class World:
         """The answers to all questions, in the order in which they were asked."""
         return tuple(self.answers.values())
 
+    def known_end(self, letter, values):
+        """How a use ends as a fact tells, or None."""
+        return self.setting.known_end(letter, values)
+
     def number_of(self, run, letter, values):
         """The number of the evaluation that a run comes to, which is noted in the run."""
         view = self.setting.view(letter, run.recent)
@@ -72,10 +77,14 @@ class Run:
             return self.world.answer(("true", value[1], value[2])) == 0
         return value != FALSE
 
+    def times(self, letter):
+        """How often a letter was evaluated."""
+        return len([met for met in self.met if met[0] == letter])
+
     def use(self, letter, values):
         """How a use of a letter ends whose parts have these values."""
         setting = self.world.setting
-        told = setting.known_end(letter, values)
+        told = self.world.known_end(letter, values)
         if told is not None:
             return told
         number = self.world.number_of(self, letter, values)
@@ -108,25 +117,15 @@ def all_worlds(permits, terms, names):
 
 
 def first_world(permits, terms, is_wanted):
-    """The first one of these worlds, without names, whose ends are wanted, or None."""
+    """The first one of these worlds, without names, that is wanted, or None."""
     setting = Setting(permits)
     bits = ()
     while bits is not None:
         world = _lived(setting, terms, {}, bits)
-        if is_wanted(world.ends):
+        if is_wanted(world):
             return world
         bits = bits_behind(world.asked_bits())
     return None
-
-
-def bits_behind(bits):
-    """The first bits, in ascending order, of the ways behind those with these bits, or None."""
-    kept = list(bits)
-    while len(kept) > 0 and kept[-1] == 1:
-        kept.pop()
-    if len(kept) == 0:
-        return None
-    return tuple(kept[:-1]) + (1,)
 
 
 def _lived(setting, terms, names, bits):

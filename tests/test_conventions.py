@@ -6,6 +6,7 @@ import unittest
 
 from any_objects import NAMES, NO_NAMES
 from freeworldrules.books import Book
+from freeworldrules.desks import Desk
 from freeworldrules.dropped import can_go, dropped, shortest
 from freeworldrules.errors import BadBits, BadFact, BadLetter, BadPermit, BadPlayer, BadRow, BadTerm, NoPart
 from freeworldrules.findings import counts, failures, known, may_stay, needless, never_more, unreached
@@ -62,6 +63,16 @@ FUNCTIONS = [
     ("dropped", "can_go", "(ground, permits, row)"),
     ("dropped", "shortest", "(ground, permits, row)"),
     ("books", "Book", "(ground, permits)"),
+    ("desks", "Desk", "(ground, permits)"),
+    ("texts", "written", "(ground, term)"),
+    ("texts", "read", "(ground, text)"),
+    ("events", "lets", "(ground, permits, term, event)"),
+    ("events", "way_to", "(ground, permits, term, event)"),
+    ("events", "letting", "(ground, term, event)"),
+    ("events", "barring", "(ground, term, event)"),
+    ("marks", "marks_of", "(ground)"),
+    ("marks", "with_marks", "(ground, some)"),
+    ("marks", "resting", "(ground, permits, one, other, relation='same')"),
 ]
 
 METHODS = {
@@ -72,6 +83,9 @@ METHODS = {
               "__len__": "(self)", "__contains__": "(self, row)", "__iter__": "(self)", "__eq__": "(self, other)"},
     Book: {"add": "(self, name, one, other)", "drop": "(self, name)", "rule": "(self, name)", "names": "(self)",
            "steps": "(self, term)", "forms": "(self, term, most)", "cheapest": "(self, term, most)"},
+    Desk: {"watch": "(self, name, one, other, relation='same')", "unwatch": "(self, name)", "names": "(self)",
+           "state": "(self, name)", "permits": "(self)", "allow": "(self, row)", "forbid": "(self, row)",
+           "undo": "(self)", "again": "(self)", "would": "(self, rows)"},
 }
 
 

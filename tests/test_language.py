@@ -75,6 +75,7 @@ class Files(unittest.TestCase):
                 self.assertEqual(folder, "freeworldrules")
                 defined = [part.name for part in TREES[file + ".py"].body
                            if isinstance(part, (ast.FunctionDef, ast.ClassDef))]
+                defined += [part.targets[0].id for part in TREES[file + ".py"].body if isinstance(part, ast.Assign)]
                 for alias in node.names:
                     self.assertIn(alias.name, defined)
                     self.assertIsNone(alias.asname)
