@@ -1,14 +1,4 @@
-"""Bits, by which runs answer questions: their order, and the least ones."""
-
-
-def bits_behind(bits):
-    """The first bits, in ascending order, of the ways behind those with these bits, or None."""
-    kept = list(bits)
-    while len(kept) > 0 and kept[-1] == 1:
-        kept.pop()
-    if len(kept) == 0:
-        return None
-    return tuple(kept[:-1]) + (1,)
+"""Bits, by which runs answer questions, and the least ones of these."""
 
 
 def least_bits(many):

@@ -4,8 +4,10 @@ from freeworldrules.checks import check_ground, check_relation
 from freeworldrules.errors import BadName, Held, NoDeed, NotHeld
 from freeworldrules.kinds import is_name
 from freeworldrules.permits import Permits
-from freeworldrules.rules import holds
+from freeworldrules.relations import always_related
+from freeworldrules.settings import Setting
 from freeworldrules.terms import checked
+from freeworldrules.worlds import closed
 
 
 class Desk:
@@ -105,4 +107,4 @@ class Desk:
 
     def _state_within(self, permits, name):
         one, other, relation = self._watched[name]
-        return holds(self._ground, permits, one, other, relation)
+        return always_related(Setting(self._ground, permits), relation, closed([one, other]))

@@ -4,11 +4,13 @@ from freeworldrules.bits import least_bits
 from freeworldrules.checks import check_ground
 from freeworldrules.errors import BadEvent
 from freeworldrules.kinds import is_list, is_name, is_number
-from freeworldrules.leasts import least_masks
 from freeworldrules.masks import Places
-from freeworldrules.terms import checked, parts
-from freeworldrules.undecided import undecided_world
-from freeworldrules.worlds import all_worlds, first_world
+from freeworldrules.names import letters_in
+from freeworldrules.settings import Setting
+from freeworldrules.steps import noting_paths
+from freeworldrules.terms import checked, paths_in
+from freeworldrules.undecided import Undecided
+from freeworldrules.worlds import World, closed, times
 
 MOST_TIMES = 9
 
@@ -17,28 +19,45 @@ def lets(ground, permits, term, event):
     """Tells whether some way of a term meets an event."""
     check_ground(ground, permits)
     whole, asked = _checked_event(ground, term, event)
-    return first_world(permits, [whole], lambda world: _is_met(world, asked)) is not None
+    world = World(Setting(ground, permits))
+    return bool(_live(world, whole, asked, lambda: True))
 
 
 def way_to(ground, permits, term, event):
     """The least bits by which a term meets an event, or None."""
     check_ground(ground, permits)
     whole, asked = _checked_event(ground, term, event)
-    return least_bits([world.asked_bits() for world in all_worlds(permits, [whole], {}) if _is_met(world, asked)])
+    world = World(Setting(ground, permits))
+    found = []
+    _live(world, whole, asked, lambda: found.append(world.asked_bits()))
+    return least_bits(found)
 
 
 def letting(ground, term, event):
     """The list of the least permits that let an event of a term."""
     whole, asked = _checked_event(ground, term, event)
-    places = Places(ground)
-    return places.in_order(_letting(places, whole, asked))
+    places = Places(ground, letters_in(whole))
+    return places.permits_in_order(_letting(places, whole, asked))
 
 
 def barring(ground, term, event):
     """The list of the greatest permits that do not let an event of a term."""
     whole, asked = _checked_event(ground, term, event)
-    places = Places(ground)
-    return places.in_order(places.greatest_without(_letting(places, whole, asked)))
+    places = Places(ground, letters_in(whole))
+    return places.greatest_without(_letting(places, whole, asked))
+
+
+def _letting(places, term, event):
+    """The masks of the least permits that let an event."""
+    world = Undecided(places)
+    _live(world, term, event, lambda: world.note(world.mask))
+    return world.least
+
+
+def _live(world, term, event, behind):
+    """Goes on behind each way of a term that meets an event."""
+    noting = noting_paths(term, ()) if event[0] == "reached" else term
+    return world.live(closed([noting]), lambda ends: behind() if _is_met(world, ends[0], event) else False)
 
 
 def _checked_event(ground, term, event):
@@ -64,30 +83,23 @@ def _is_event(ground, term, word, things):
         return things[0] in ground
     if word == "fail":
         return is_name(things[0])
-    return word == "reached" and _is_path(ground, term, things[0])
+    return word == "reached" and _is_path(term, things[0])
 
 
-def _is_path(ground, term, thing):
+def _is_path(term, thing):
     # for Python, True would be the number 1
     if not is_list(thing) or not all([is_number(place) for place in thing]):
         return False
-    return tuple(thing) in parts(ground, term)
+    return tuple(thing) in paths_in(term)
 
 
-def _is_met(world, event):
-    """Tells whether the way of a world meets an event."""
-    kind, what, _ = world.ends[0]
+def _is_met(world, end, event):
+    """Tells whether the way of a world that has come to an end meets an event."""
     if event[0] == "reached":
-        return event[1] in world.runs[0].reached
+        return event[1] in world.reached
     if event[0] == "often":
-        return world.runs[0].times(event[1]) >= event[2]
+        return times(event[1], world.met) >= event[2]
     if event[0] == "stays":
-        return kind == "stays"
+        return end[0] == "stays"
     # a failure of a letter is told with its number, too
-    return kind == "fails" and what[:2] == event
-
-
-def _letting(places, term, event):
-    """The masks of the least permits that let an event."""
-    return least_masks(lambda bits: undecided_world(places, [term], bits),
-                       lambda world: [world.let()] if _is_met(world, event) else [])
+    return end[0] == "fails" and end[1][:2] == event

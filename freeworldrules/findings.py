@@ -2,9 +2,11 @@
 
 from freeworldrules.checks import check_ground
 from freeworldrules.names import all_parts, new_name
-from freeworldrules.rules import holds
-from freeworldrules.terms import checked, parts, put_at
-from freeworldrules.worlds import all_worlds
+from freeworldrules.relations import end_alike
+from freeworldrules.settings import Setting
+from freeworldrules.steps import noting_paths
+from freeworldrules.terms import checked, paths_in, with_part
+from freeworldrules.worlds import World, closed, times
 
 
 def known(ground, permits, term):
@@ -28,27 +30,32 @@ def may_stay(ground, permits, term):
 
 def unreached(ground, permits, term):
     """The list of the paths of parts to which no way comes."""
+    check_ground(ground, permits)
+    whole = checked(ground, term)
+    world = World(Setting(ground, permits))
     reached = {}
-    for world in _worlds(ground, permits, term):
-        for path in world.runs[0].reached:
-            reached[path] = True
-    return [path for path in parts(ground, term) if path not in reached]
+    world.live(closed([noting_paths(whole, ())]), lambda _: reached.update({path: True for path in world.reached}))
+    return [path for path in paths_in(whole) if path not in reached]
 
 
 def needless(ground, permits, term):
     """The list of the paths of parts that can be put by any value."""
     check_ground(ground, permits)
     whole = checked(ground, term)
+    setting = Setting(ground, permits)
     names = _names_to_try(ground, whole)
-    return [path for path in parts(ground, whole) if _is_needless(ground, permits, whole, path, names)]
+    return [path for path in paths_in(whole) if _is_needless(setting, whole, path, names)]
 
 
 def counts(ground, permits, term):
     """The dict from letters to the pairs of how often each is evaluated at least and at most."""
-    worlds = _worlds(ground, permits, term)
+    check_ground(ground, permits)
+    world = World(Setting(ground, permits))
+    ways = []
+    world.live(closed([checked(ground, term)]), lambda _: ways.append(list(world.met)))
     found = {}
     for letter in ground:
-        many = [world.runs[0].times(letter) for world in worlds]
+        many = [times(letter, met) for met in ways]
         found[letter] = (min(many), max(many))
     return found
 
@@ -56,18 +63,24 @@ def counts(ground, permits, term):
 def never_more(ground, permits, one, other):
     """Tells whether in each way of both no letter is evaluated more often in the one than in the other."""
     check_ground(ground, permits)
-    worlds = all_worlds(permits, [checked(ground, one), checked(ground, other)], {})
-    return all([world.runs[0].times(letter) <= world.runs[1].times(letter)
-                for world in worlds for letter in ground])
+    terms = [checked(ground, one), checked(ground, other)]
+    world = World(Setting(ground, permits))
+    return not world.live(closed(terms[:1]), lambda _: _is_ever_more(ground, world, terms[1]))
 
 
-def _worlds(ground, permits, term):
-    check_ground(ground, permits)
-    return all_worlds(permits, [checked(ground, term)], {})
+def _is_ever_more(ground, world, other):
+    """Tells whether on this way of a term, in some way of another one, a letter is evaluated more often than there."""
+    met = list(world.met)
+    return world.live(closed([other]), lambda _: any(
+        [times(letter, met) > times(letter, world.met[len(met):]) for letter in ground]))
 
 
 def _ends(ground, permits, term):
-    return [world.ends[0] for world in _worlds(ground, permits, term)]
+    check_ground(ground, permits)
+    world = World(Setting(ground, permits))
+    found = []
+    world.live(closed([checked(ground, term)]), lambda ends: found.append(world.end_of(ends[0])))
+    return found
 
 
 def _names_to_try(ground, term):
@@ -82,5 +95,5 @@ def _names_to_try(ground, term):
     return list(names) + [new_name(names)]
 
 
-def _is_needless(ground, permits, term, path, names):
-    return all([holds(ground, permits, term, put_at(ground, term, path, ("value", name))) for name in names])
+def _is_needless(setting, term, path, names):
+    return all([end_alike(setting, term, with_part(term, path, ("value", name))) for name in names])

@@ -19,6 +19,12 @@ class Ground:
         self._order = list(letters)
         self._fixed = [letter for letter in letters if letter in fixed]
         self._commuting = [letter for letter in letters if letter in commuting]
+        # what runs ask over and over again: the letters that are not fixed, those that commute, the ends that are told
+        self.moving = {letter: True for letter in letters if letter not in fixed}
+        self.commutes = {letter: True for letter in self._commuting}
+        self.known_ends = _ends_by_values(self._facts, self.commutes)
+        # from all permissions, in order, to their places
+        self.places = {row: place for place, row in enumerate(_all_permissions(self._order, list(self.moving)))}
 
     def letters(self):
         """The dict from the letters to the numbers of their parts."""
@@ -37,8 +43,8 @@ class Ground:
         return list(self._facts)
 
     def parts_of(self, letter):
-        """The number of parts of a letter of this ground."""
-        return self._letters[letter]
+        """The number of parts of a letter, None if a string is no letter of this ground."""
+        return self._letters.get(letter)
 
     def __len__(self):
         return len(self._order)
@@ -56,6 +62,29 @@ class Ground:
                 and self._fixed == other._fixed
                 and self._commuting == other._commuting
                 and self._facts == other._facts)
+
+
+def _ends_by_values(facts, commutes):
+    """The dict from letters and the values of their parts, sorted for commuting ones, to how they end."""
+    ends = {}
+    for letter, names, end in facts:
+        values = tuple([("value", name) for name in (sorted(names) if letter in commutes else names)])
+        ends[(letter, values)] = as_outcome(end)
+    return ends
+
+
+def as_outcome(end):
+    """The end that a fact tells, as parts end in runs: the kind, and with what."""
+    return ("fails" if end[0] == "fail" else "value", end)
+
+
+def _all_permissions(letters, moving):
+    fails = [("fails", letter) for letter in letters]
+    stays = [("stays", letter) for letter in letters]
+    writes = [("writes", letter) for letter in moving]
+    shows = [("shows", one, other) for one in moving for other in moving]
+    shares = [("shares", one, other) for place, one in enumerate(moving) for other in moving[place + 1:]]
+    return fails + stays + writes + shows + shares
 
 
 def _check_letters(letters):

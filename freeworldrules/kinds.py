@@ -15,6 +15,5 @@ def is_number(thing):
 
 def is_name(thing):
     """Tells whether a thing is a string of one to eight letters a to z."""
-    if not isinstance(thing, str) or not 1 <= len(thing) <= MOST_SIGNS:
-        return False
-    return all(["a" <= sign <= "z" for sign in thing])
+    return (isinstance(thing, str) and 1 <= len(thing) <= MOST_SIGNS
+            and thing.isascii() and thing.isalpha() and thing.islower())

@@ -1,11 +1,46 @@
 """The least ones among masks, integers whose bits tell what is let or lacks."""
 
-from freeworldrules.bits import bits_behind
+from freeworldrules.worlds import World
+
+
+class Growing(World):
+    """A world along the ways of which a mask grows by answers, and the least masks that were found on ways so far."""
+
+    def __init__(self, setting, mask, masks_of):
+        World.__init__(self, setting)
+        self.mask = mask
+        # from the questions, or the permissions for which they ask, to what their ones add
+        self.masks_of = masks_of
+        self.least = []
+
+    def ask(self, question, behind):
+        """Goes on behind a question with 0, and with 1 where a mask can be found that is not known already."""
+        if question in self.answers:
+            return behind(self.answers[question])
+        self.answers[question] = 0
+        behind(0)
+        before = self.mask
+        # a letter may always fail and stay here: what does neither needs no permission
+        row = question[:2] if question[0] in ("fails", "stays") else question
+        self.mask = before | self.masks_of.get(row, 0)
+        if not is_any_within(self.least, self.mask):
+            self.answers[question] = 1
+            behind(1)
+        self.mask = before
+        del self.answers[question]
+        return False
+
+    def note(self, mask):
+        """Notes a mask that was found."""
+        self.least = with_least(self.least, mask)
 
 
 def is_any_within(masks, mask):
     """Tells whether a mask has all bits of one of the masks."""
-    return any([mask & one == one for one in masks])
+    for one in masks:
+        if mask & one == one:
+            return True
+    return False
 
 
 def with_least(masks, mask):
@@ -13,18 +48,6 @@ def with_least(masks, mask):
     if is_any_within(masks, mask):
         return masks
     return [one for one in masks if mask & one != mask] + [mask]
-
-
-def least_masks(world_by, masks_of):
-    """The least ones among the masks that are told of all worlds, each of which is made by bits."""
-    found = []
-    bits = ()
-    while bits is not None:
-        world = world_by(bits)
-        for mask in masks_of(world):
-            found = with_least(found, mask)
-        bits = bits_behind(_bits_to_known(world, found))
-    return found
 
 
 def least_meeting(masks, parts_of_mask):
@@ -40,10 +63,6 @@ def least_meeting(masks, parts_of_mask):
     return met
 
 
-def _bits_to_known(world, found):
-    """The bits of a way up to the first one behind which no further masks can be least."""
-    bits = world.asked_bits()
-    for many, mask in world.grown():
-        if is_any_within(found, mask):
-            return bits[:many]
-    return bits
+def places_in(mask):
+    """The list of the places of the bits of a mask, ascending."""
+    return [place for place in range(mask.bit_length()) if mask >> place & 1 == 1]

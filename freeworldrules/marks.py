@@ -4,11 +4,12 @@ from freeworldrules.checks import check_ground, check_relation
 from freeworldrules.errors import BadMark
 from freeworldrules.grounds import Ground
 from freeworldrules.kinds import is_list, is_number
-from freeworldrules.leasts import least_masks, least_meeting
-from freeworldrules.relations import related
+from freeworldrules.leasts import least_meeting, places_in
+from freeworldrules.relations import is_related
 from freeworldrules.settings import Setting
 from freeworldrules.terms import checked
 from freeworldrules.unmarked import Unmarked
+from freeworldrules.worlds import closed
 
 
 def marks_of(ground):
@@ -31,11 +32,11 @@ def resting(ground, permits, one, other, relation="same"):
     terms = [checked(ground, one), checked(ground, other)]
     check_relation(relation)
     marks = marks_of(ground)
-    setting = Setting(permits)
-    broken = least_masks(lambda bits: _unmarked_world(marks, setting, ground.facts(), terms, bits),
-                         lambda world: [] if related(relation, *world.ends) else [world.lacking()])
-    least = [_places_in(mask) for mask in least_meeting(broken, _single_bits)]
-    return [tuple([marks[place] for place in places]) for places in sorted(least, key=lambda row: (len(row), row))]
+    world = Unmarked(Setting(ground, permits), marks, ground.facts())
+    world.live(closed(terms), lambda ends: None if is_related(world, relation, ends) else world.note(world.mask))
+    least = least_meeting(world.least, lambda mask: [1 << place for place in places_in(mask)])
+    ordered = sorted([places_in(mask) for mask in least], key=lambda places: (len(places), places))
+    return [tuple([marks[place] for place in places]) for places in ordered]
 
 
 def _checked_marks(ground, some):
@@ -57,18 +58,3 @@ def _is_like_mark(thing):
         return False
     return isinstance(thing[1], str) or is_number(thing[1])
 
-
-def _unmarked_world(marks, setting, facts, terms, bits):
-    world = Unmarked(marks, setting, facts, bits)
-    for term in terms:
-        world.live(term, {})
-    return world
-
-
-def _single_bits(mask):
-    return [1 << place for place in _places_in(mask)]
-
-
-def _places_in(mask):
-    """The list of the places of the bits of a mask."""
-    return [place for place in range(mask.bit_length()) if mask >> place & 1 == 1]

@@ -1,41 +1,52 @@
-"""Permits as integers, a bit for each permission of a ground."""
+"""Permits as integers, a bit for each permission of some letters."""
 
-from freeworldrules.leasts import least_meeting
-from freeworldrules.permits import Permits, rows_always, with_brought
+from freeworldrules.leasts import least_meeting, places_in
+from freeworldrules.permits import in_order, permits_with, rows_always, with_brought
 from freeworldrules.settings import Setting
 
 
 class Places:
-    """The places of all permissions of a ground, in order."""
+    """The places of the permissions of those letters of a ground on which something hangs."""
 
-    def __init__(self, ground):
-        full = Permits.full(ground)
+    def __init__(self, ground, letters):
         self.ground = ground
-        self.setting = Setting(full)
-        self.every = full.rows()
-        self.place_of = {row: place for place, row in enumerate(self.every)}
-        # what permits always have
-        self.always = sum([1 << self.place_of[row] for row in self.every if row in rows_always(ground)])
-        # a permission with those that it brings, and one with those that bring it
-        self.brought = {row: sum([1 << self.place_of[one] for one in with_brought(row)]) for row in self.every}
-        self.bringing = {row: sum([1 << self.place_of[one] for one in self.every if row in with_brought(one)])
-                         for row in self.every}
+        among = {letter: True for letter in letters}
+        self.every = [row for row in ground.places if row[1] in among and row[-1] in among]
+        self.setting = Setting(ground, self.every)
+        place_of = {row: place for place, row in enumerate(self.every)}
+        # what permits always have, of these permissions and of others
+        self.always = sum([1 << place_of[row] for row in rows_always(ground) if row in place_of])
+        self.further = [row for row in rows_always(ground) if row not in place_of]
+        # a permission with those that it brings
+        self.brought = {row: sum([1 << place_of[one] for one in with_brought(row)]) for row in self.every}
 
     def rows_in(self, mask):
         """The list of the permissions of a mask, in order."""
-        return [row for place, row in enumerate(self.every) if mask >> place & 1 == 1]
+        return [self.every[place] for place in places_in(mask)]
 
-    def in_order(self, masks):
-        """The list of the permits of masks, by the number of rows, then by their places."""
-        rows = [[place for place in range(len(self.every)) if mask >> place & 1 == 1] for mask in masks]
-        ordered = sorted(rows, key=lambda places: (len(places), places))
-        return [Permits(self.ground, [self.every[place] for place in places]) for places in ordered]
+    def permits_in_order(self, masks):
+        """The list of the permits with the permissions of masks, by the number of rows, then by their places."""
+        rows = [in_order(self.ground, self.further + self.rows_in(mask)) for mask in masks]
+        return _least_first([permits_with(self.ground, some) for some in rows])
 
     def greatest_without(self, masks):
-        """The masks of the greatest permits that have none of the masks."""
-        every = (1 << len(self.every)) - 1
-        return [every - gone for gone in least_meeting(masks, lambda mask: self._gone_with(mask))]
+        """The list of the greatest permits that have none of the masks, in the same order."""
+        return _least_first([self._all_but(gone) for gone in least_meeting(masks, lambda mask: self._gone_with(mask))])
 
     def _gone_with(self, mask):
         """What can lack of a mask, a permission with those that bring it; what permits always have cannot."""
-        return [self.bringing[row] for row in self.rows_in(mask) if self.brought[row] & self.always == 0]
+        parts = []
+        for place in places_in(mask & ~self.always):
+            row = self.every[place]
+            parts.append(sum([1 << at for at, one in enumerate(self.every) if self.brought[one] >> place & 1 == 1]))
+        return parts
+
+    def _all_but(self, mask):
+        """The permits with all permissions but those of a mask, and those that bring them."""
+        gone = {row: True for row in self.rows_in(mask)}
+        kept = [row for row in self.ground.places if not any([one in gone for one in with_brought(row)])]
+        return permits_with(self.ground, kept)
+
+
+def _least_first(many):
+    return sorted(many, key=lambda permits: (len(permits), [permits.ground.places[row] for row in permits]))

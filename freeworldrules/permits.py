@@ -8,13 +8,12 @@ class Permits:
     """Permissions of the letters of a ground, with those that they bring."""
 
     def __init__(self, ground, rows=()):
-        every = _all_rows(ground)
         had = {row: True for row in rows_always(ground)}
-        for row in _checked_rows(every, rows):
+        for row in _checked_rows(ground, rows):
             for brought in with_brought(row):
                 had[brought] = True
         self.ground = ground
-        self._rows = {row: True for row in every if row in had}
+        self._rows = {row: True for row in in_order(ground, had)}
 
     def rows(self):
         """The list of the permissions, in order."""
@@ -25,27 +24,27 @@ class Permits:
         gone = _row_among(self._rows, row)
         if gone is None or gone in rows_always(self.ground):
             raise NoRow(row)
-        return Permits(self.ground, [kept for kept in self._rows if gone not in with_brought(kept)])
+        return permits_with(self.ground, [kept for kept in self._rows if gone not in with_brought(kept)])
 
     def within(self, other):
         """Tells whether the other permits have all rows of these."""
         _check_like(self, other)
-        return all([row in other for row in self._rows])
+        return all([row in other._rows for row in self._rows])
 
     def joined(self, other):
         """The permits with the rows of either."""
         _check_like(self, other)
-        return Permits(self.ground, self.rows() + other.rows())
+        return permits_with(self.ground, in_order(self.ground, {**self._rows, **other._rows}))
 
     def common(self, other):
         """The permits with the rows of both."""
         _check_like(self, other)
-        return Permits(self.ground, [row for row in self._rows if row in other])
+        return permits_with(self.ground, [row for row in self._rows if row in other._rows])
 
     @staticmethod
     def full(ground):
         """The permits of a ground with all permissions."""
-        return Permits(ground, _all_rows(ground))
+        return permits_with(ground, list(ground.places))
 
     def __len__(self):
         return len(self._rows)
@@ -60,21 +59,22 @@ class Permits:
         return isinstance(other, Permits) and self.ground == other.ground and self._rows == other._rows
 
 
-def _all_rows(ground):
-    """The list of all permissions of a ground, in order."""
-    fixed = ground.fixed()
-    moving = [letter for letter in ground if letter not in fixed]
-    fails = [("fails", letter) for letter in ground]
-    stays = [("stays", letter) for letter in ground]
-    writes = [("writes", letter) for letter in moving]
-    shows = [("shows", one, other) for one in moving for other in moving]
-    shares = [("shares", one, other) for place, one in enumerate(moving) for other in moving[place + 1:]]
-    return fails + stays + writes + shows + shares
+def permits_with(ground, rows):
+    """The permits with just these permissions, which are in order, with all that they bring and that is always had."""
+    permits = Permits(ground)
+    permits._rows = {row: True for row in rows}
+    return permits
+
+
+def in_order(ground, rows):
+    """The list of permissions of a ground in their order."""
+    return sorted(rows, key=lambda row: ground.places[row])
 
 
 def rows_always(ground):
     """The rows of all permits of a ground: a letter fails where a fact tells it."""
-    return [("fails", letter) for letter, _, end in ground.facts() if end[0] == "fail"]
+    told = {letter: True for letter, _, end in ground.facts() if end[0] == "fail"}
+    return [("fails", letter) for letter in told]
 
 
 def with_brought(row):
@@ -86,13 +86,12 @@ def with_brought(row):
     return [row]
 
 
-def _checked_rows(every, rows):
+def _checked_rows(ground, rows):
     if not is_list(rows):
         raise BadPermit(0)
-    known = {row: True for row in every}
     found = []
     for index, thing in enumerate(rows):
-        row = _row_among(known, thing)
+        row = _row_among(ground.places, thing)
         if row is None:
             raise BadPermit(index)
         found.append(row)

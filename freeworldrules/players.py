@@ -5,8 +5,9 @@ from freeworldrules.errors import BadPlayer, BadTerm, Clash
 from freeworldrules.kinds import is_list, is_name
 from freeworldrules.names import bound_in, letters_in
 from freeworldrules.permits import Permits
+from freeworldrules.settings import Setting
 from freeworldrules.terms import checked, checked_within, terms_in, with_terms
-from freeworldrules.worlds import all_worlds
+from freeworldrules.worlds import World, with_own_values
 
 
 def played(ground, term, players):
@@ -87,11 +88,11 @@ def _played(term, known):
 def _ends_of(permits, known):
     """The permissions to fail and to stay, if the players stand for their letters."""
     rows = [row for row in permits.rows() if row[0] in ("fails", "stays") and row[1] not in known]
+    setting = Setting(permits.ground, permits)
     for letter, player in known.items():
-        # values of letters that are none, and so have no permission
-        values = {name: ("gave", str(place), 1) for place, name in enumerate(player[0])}
-        ends = [world.ends[0][0] for world in all_worlds(permits, [player[1]], values)]
-        rows.extend([(word, letter) for word in ("fails", "stays") if word in ends])
+        kinds = []
+        World(setting).live([with_own_values(*player)], lambda ends: kinds.append(ends[0][0]))
+        rows.extend([(word, letter) for word in ("fails", "stays") if word in kinds])
     return rows
 
 

@@ -1,25 +1,33 @@
-"""Settings: permits, laid out for the runs in the free world."""
+"""Settings: permissions, laid out for the runs in the free world."""
 
 
 class Setting:
-    """What permits let the letters of their ground do, and what facts tell of these."""
+    """What permissions let the letters of a ground do, and what facts tell of these."""
 
-    def __init__(self, permits):
-        ground = permits.ground
-        rows = permits.rows()
-        fixed = ground.fixed()
-        self.moving = [letter for letter in ground if letter not in fixed]
-        self.commutes = {letter: True for letter in ground.commuting()}
-        self.failing = {row[1]: True for row in rows if row[0] == "fails"}
-        self.staying = {row[1]: True for row in rows if row[0] == "stays"}
-        self.writing = [row[1] for row in rows if row[0] == "writes"]
-        self.sharing = [row[1:] for row in rows if row[0] == "shares"]
-        self.shown = {letter: [row[1] for row in rows if row[0] == "shows" and row[2] == letter] for letter in ground}
-        self.shared = {letter: _pairs_among(self.sharing, self.shown[letter]) for letter in ground}
-        self.known_ends = {}
-        for letter, names, end in ground.facts():
-            values = tuple([("value", name) for name in names])
-            self.known_ends[(letter, self.in_either_order(letter, values))] = as_outcome(end)
+    def __init__(self, ground, rows):
+        self.moving = ground.moving
+        self.commutes = ground.commutes
+        self.known_ends = ground.known_ends
+        self.failing = {}
+        self.staying = {}
+        self.writing = []
+        self.sharing = []
+        # from letters to those that show them something, in order
+        self.shown = {}
+        for row in rows:
+            self._let(row)
+
+    def _let(self, row):
+        if row[0] == "fails":
+            self.failing[row[1]] = True
+        elif row[0] == "stays":
+            self.staying[row[1]] = True
+        elif row[0] == "writes":
+            self.writing.append(row[1])
+        elif row[0] == "shows":
+            self.shown.setdefault(row[2], []).append(row[1])
+        else:
+            self.sharing.append(row[1:])
 
     def in_either_order(self, letter, values):
         """The values as they are told apart: for a commuting letter exchanged ones are the same."""
@@ -36,8 +44,21 @@ class Setting:
 
     def view(self, letter, recent):
         """What a letter can see of the evaluations ahead of it."""
-        alone = [numbers_of(one, recent) for one in self.shown[letter]]
-        return tuple(alone + [pairs_of(pair, recent) for pair in self.shared[letter]])
+        if letter not in self.shown:
+            return ()
+        shown = self.shown[letter]
+        alone = [numbers_of(one, recent) for one in shown]
+        pairs = [pairs_of(pair, recent) for pair in self.sharing if pair[0] in shown and pair[1] in shown]
+        return tuple(alone + pairs)
+
+    def recent_behind(self, letter, number, recent):
+        """The evaluations (letter, number) of letters that are not fixed, each once, by their last occurrence."""
+        if letter not in self.moving:
+            return recent
+        met = (letter, number)
+        if met in recent:
+            return tuple([one for one in recent if one != met]) + (met,)
+        return recent + (met,)
 
     def left(self, recent):
         """What evaluations leave behind them."""
@@ -54,14 +75,3 @@ def numbers_of(letter, recent):
 def pairs_of(pair, recent):
     """The evaluations of two letters among others, in their order."""
     return tuple([met for met in recent if met[0] in pair])
-
-
-def _pairs_among(pairs, letters):
-    return [pair for pair in pairs if pair[0] in letters and pair[1] in letters]
-
-
-def as_outcome(end):
-    """The end that a fact tells, as parts end in runs."""
-    if end[0] == "fail":
-        return ("fails", end)
-    return ("value", end)

@@ -17,7 +17,7 @@ def checked(ground, thing):
 
 def parts(ground, term):
     """The list of the paths of all parts, a part ahead of those within it."""
-    return _paths(checked(ground, term), ())
+    return paths_in(checked(ground, term))
 
 
 def part_at(ground, term, path):
@@ -31,7 +31,7 @@ def put_at(ground, term, path, other):
     _part_or_raise(whole, path)
     place = tuple(path)
     put = checked_within(ground, other, _names_around(whole, place), place)
-    return _with_part(whole, place, put)
+    return with_part(whole, place, put)
 
 
 def size(ground, term):
@@ -41,11 +41,19 @@ def size(ground, term):
 
 def checked_within(ground, thing, names, path):
     """A thing as a term at a path of a whole, around which the names are bound."""
-    if not _is_node(ground, thing, names):
+    if not is_list(thing) or len(thing) < 2 or not isinstance(thing[0], str):
         raise BadTerm(path)
-    terms = [checked_within(ground, part, _names_for(thing, place, names), path + (place,))
-             for place, part in enumerate(terms_in(thing))]
-    return with_terms(thing, terms)
+    word = thing[0]
+    if word == "use" and _is_use(ground, thing):
+        return ("use", thing[1], tuple(_checked_parts(ground, thing[2], names, path)))
+    if word in TERMS_BEHIND and len(thing) == 1 + TERMS_BEHIND[word]:
+        return (word, *_checked_parts(ground, thing[1:], names, path))
+    if word in NAMED and len(thing) == 2 and is_name(thing[1]) and (word != "name" or thing[1] in names):
+        return (word, thing[1])
+    if word == "bind" and len(thing) == 4 and is_name(thing[1]):
+        bound = checked_within(ground, thing[2], names, path + (0,))
+        return ("bind", thing[1], bound, checked_within(ground, thing[3], (*names, thing[1]), path + (1,)))
+    raise BadTerm(path)
 
 
 def terms_in(term):
@@ -70,24 +78,39 @@ def with_terms(term, terms):
     return (term[0], *terms)
 
 
-def _is_node(ground, thing, names):
-    """Tells whether a thing is a term, as far as the terms within it are."""
-    if not is_list(thing) or len(thing) == 0 or not isinstance(thing[0], str):
-        return False
-    word = thing[0]
-    if word == "use":
-        return _is_use(ground, thing)
-    if word == "bind":
-        return len(thing) == 4 and is_name(thing[1])
-    if word in NAMED:
-        return len(thing) == 2 and is_name(thing[1]) and (word != "name" or thing[1] in names)
-    return word in TERMS_BEHIND and len(thing) == 1 + TERMS_BEHIND[word]
+def paths_in(term):
+    """The list of the paths of all parts of a term, a part ahead of those within it."""
+    found = [()]
+    for place, part in enumerate(terms_in(term)):
+        found.extend([(place, *path) for path in paths_in(part)])
+    return found
+
+
+def part_of(term, path):
+    """The part of a term at a path of one."""
+    part = term
+    for place in path:
+        part = terms_in(part)[place]
+    return part
+
+
+def with_part(term, path, other):
+    """The term with another one in the place of the part at a path of one."""
+    if len(path) == 0:
+        return other
+    terms = list(terms_in(term))
+    terms[path[0]] = with_part(terms[path[0]], path[1:], other)
+    return with_terms(term, terms)
+
+
+def _checked_parts(ground, things, names, path):
+    return [checked_within(ground, thing, names, path + (place,)) for place, thing in enumerate(things)]
 
 
 def _is_use(ground, thing):
-    if len(thing) != 3 or thing[1] not in ground or not is_list(thing[2]):
+    if len(thing) != 3 or not isinstance(thing[1], str) or not is_list(thing[2]):
         return False
-    return len(thing[2]) == ground.parts_of(thing[1])
+    return ground.parts_of(thing[1]) == len(thing[2])
 
 
 def _names_for(term, place, names):
@@ -106,13 +129,6 @@ def _names_around(term, path):
     return names
 
 
-def _paths(term, path):
-    found = [path]
-    for place, part in enumerate(terms_in(term)):
-        found.extend(_paths(part, path + (place,)))
-    return found
-
-
 def _part_or_raise(term, path):
     if not is_list(path):
         raise NoPart(path)
@@ -123,11 +139,3 @@ def _part_or_raise(term, path):
             raise NoPart(path)
         part = terms[place]
     return part
-
-
-def _with_part(term, path, other):
-    if len(path) == 0:
-        return other
-    terms = list(terms_in(term))
-    terms[path[0]] = _with_part(terms[path[0]], path[1:], other)
-    return with_terms(term, terms)

@@ -1,57 +1,52 @@
 """The free world of all marks at once: which ones a ground lacks is asked of the bits, too."""
 
-from freeworldrules.settings import as_outcome
-from freeworldrules.worlds import World
+from freeworldrules.grounds import as_outcome
+from freeworldrules.leasts import Growing
 
 
-class Unmarked(World):
+class Unmarked(Growing):
     """A world in which it is asked which marks lack, where an end or a number hangs on it."""
 
-    def __init__(self, marks, setting, told, bits):
-        World.__init__(self, setting, bits)
-        self.marks = marks
+    def __init__(self, setting, marks, told):
+        Growing.__init__(self, setting, 0, {mark: 1 << place for place, mark in enumerate(marks)})
         self.told = told
 
-    def known_end(self, letter, values):
-        """How a use ends as a fact tells that does not lack, or None."""
+    def use(self, letter, values, recent, behind):
+        """Goes on behind a use of a letter whose parts have these values."""
+        marks, end = self.fact_for(letter, values)
+        if end is None:
+            return self.use_untold(letter, values, recent, behind)
+        kind, what = as_outcome(end)
+        return self.have_all(marks, 0, lambda has_all: behind(kind, what, recent) if has_all
+                             else self.use_untold(letter, values, recent, behind))
+
+    def fact_for(self, letter, values):
+        """The list of the marks by which a fact tells how a use ends, and this end; None if no fact does."""
         for place, (one, names, end) in enumerate(self.told):
             known = tuple([("value", name) for name in names])
-            if one == letter and self._is_like(letter, known, values):
-                return None if self.answer(("fact", place)) == 1 else as_outcome(end)
-        return None
+            if one == letter and known == values:
+                return [("fact", place)], end
+            if one == letter and letter in self.setting.commutes and known[::-1] == values:
+                return [("commutes", letter), ("fact", place)], end
+        return [], None
 
-    def number_of(self, run, letter, values):
-        """The number of the evaluation that a run comes to, which is noted in the run."""
-        view = self.setting.view(letter, run.recent)
-        seen = (letter, values, view)
+    def have_all(self, marks, place, behind):
+        """Goes on with whether no mark from a place on lacks."""
+        if place == len(marks):
+            return behind(True)
+        return self.ask(marks[place], lambda bit:
+                        self.have_all(marks, place + 1, behind) if bit == 0 else behind(False))
+
+    def use_untold(self, letter, values, recent, behind):
+        """Goes on behind an evaluation."""
+        view = self.setting.view(letter, recent)
         exchanged = (letter, values[::-1], view)
-        if seen not in self.numbers:
-            if exchanged in self.numbers and self._is_like(letter, values, values[::-1]):
-                self.numbers[seen] = self.numbers[exchanged]
-            else:
-                self.numbers[seen] = self.new_number(letter)
-        number = self.numbers[seen]
-        run.met.append((letter, number, values, view))
-        return number
+        if letter not in self.setting.commutes or exchanged not in self.numbers:
+            return self.use_as_seen(letter, values, view, recent, behind)
+        met = (letter, self.numbers[exchanged], values, view)
+        return self.ask(("commutes", letter), lambda bit: self.evaluate(met, recent, behind) if bit == 0
+                        else self.use_as_seen(letter, values, view, recent, behind))
 
-    def grown(self):
-        """The masks of the marks that lack so far, each with the number of bits behind which it is."""
-        lacking = 0
-        found = [(0, lacking)]
-        for place, question in enumerate(self.answers):
-            if self.answers[question] == 1 and question in self.marks:
-                lacking = lacking | 1 << self.marks.index(question)
-                found.append((place + 1, lacking))
-        return found
-
-    def lacking(self):
-        """The mask of the marks that have to lack to come this way."""
-        return self.grown()[-1][1]
-
-    def _is_like(self, letter, values, others):
-        """Tells whether values are the same for a letter, exchanged ones only if it commutes."""
-        if values == others:
-            return True
-        if letter not in self.setting.commutes or values != others[::-1]:
-            return False
-        return self.answer(("commutes", letter)) == 0
+    def use_as_seen(self, letter, values, view, recent, behind):
+        """Goes on behind an evaluation with just these values in just this order."""
+        return self.evaluate_seen((letter, values, view), values, recent, behind)
