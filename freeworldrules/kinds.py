@@ -17,3 +17,10 @@ def is_name(thing):
     """Tells whether a thing is a string of one to eight letters a to z."""
     return (isinstance(thing, str) and 1 <= len(thing) <= MOST_SIGNS
             and thing.isascii() and thing.isalpha() and thing.islower())
+
+
+def are_names(thing):
+    """Tells whether a thing is a list of different names."""
+    if not is_list(thing) or not all([is_name(name) for name in thing]):
+        return False
+    return all([name not in thing[:place] for place, name in enumerate(thing)])

@@ -2,7 +2,7 @@
 
 from freeworldrules.checks import check_ground
 from freeworldrules.errors import BadPlayer, BadTerm, Clash
-from freeworldrules.kinds import is_list, is_name
+from freeworldrules.kinds import are_names, is_list
 from freeworldrules.names import bound_in, letters_in
 from freeworldrules.permits import Permits
 from freeworldrules.settings import Setting
@@ -23,12 +23,13 @@ def permits_of(ground, permits, players):
     check_ground(ground, permits)
     known = _checked_players(ground, players)
     within = {letter: letters_in(known[letter][1]) if letter in known else [letter] for letter in ground}
+    rows = {row: True for row in permits}
     return Permits(ground, _ends_of(permits, known)
-                   + [("writes", letter) for letter in ground if _do_write(permits, within[letter])]
+                   + [("writes", letter) for letter in ground if _do_write(rows, within[letter])]
                    + [("shows", one, other) for one in ground for other in ground
-                      if _do_show(permits, within[one], within[other])]
+                      if _do_show(rows, within[one], within[other])]
                    + [("shares", one, other) for one in ground for other in ground
-                      if one != other and _do_share(permits, within[one], within[other])])
+                      if one != other and _do_share(rows, within[one], within[other])])
 
 
 def _checked_players(ground, players):
@@ -48,20 +49,13 @@ def _checked_players(ground, players):
 
 def _body_or_none(ground, player, many):
     """The body of a player of a letter with so many parts, None for what is no such player."""
-    if not is_list(player) or len(player) != 2 or not _are_names(player[0]) or len(player[0]) != many:
+    if not is_list(player) or len(player) != 2 or not are_names(player[0]) or len(player[0]) != many:
         return None
     names = tuple(player[0])
     try:
         return checked_within(ground, player[1], names, ())
     except BadTerm:
         return None
-
-
-def _are_names(thing):
-    """Tells whether a thing is a list of different names."""
-    if not is_list(thing) or not all([is_name(name) for name in thing]):
-        return False
-    return all([name not in thing[:place] for place, name in enumerate(thing)])
 
 
 def _check_clash(term, known):
@@ -96,14 +90,15 @@ def _ends_of(permits, known):
     return rows
 
 
-def _do_write(permits, letters):
-    return any([("writes", letter) in permits for letter in letters])
+def _do_write(rows, letters):
+    return any([("writes", letter) in rows for letter in letters])
 
 
-def _do_show(permits, letters, others):
-    return any([("shows", one, other) in permits for one in letters for other in others])
+def _do_show(rows, letters, others):
+    return any([("shows", one, other) in rows for one in letters for other in others])
 
 
-def _do_share(permits, letters, others):
-    return any([("shares", one, other) in permits or one == other and ("writes", one) in permits
+def _do_share(rows, letters, others):
+    return any([("shares", one, other) in rows or ("shares", other, one) in rows
+                or one == other and ("writes", one) in rows
                 for one in letters for other in others])

@@ -10,7 +10,7 @@ WORDS = ("if", "and", "or", "not", "then", "bind", "try", "last", "fail")
 
 def written(ground, term):
     """The text of a term."""
-    return _written(checked(ground, term))
+    return text_of(checked(ground, term))
 
 
 def read(ground, text):
@@ -18,14 +18,15 @@ def read(ground, text):
     return checked(ground, _whole(text))
 
 
-def _written(term):
+def text_of(term):
+    """The text of what is known to be a term."""
     if term[0] == "value":
         return "'" + term[1]
     if term[0] == "name":
         return term[1]
     if term[0] == "fail":
         return f"fail({term[1]})"
-    things = [_written(part) for part in terms_in(term)]
+    things = [text_of(part) for part in terms_in(term)]
     if term[0] == "use":
         return f"{_ahead_of_brackets(term[1])}({', '.join(things)})"
     if term[0] == "bind":

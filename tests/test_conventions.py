@@ -11,6 +11,7 @@ from freeworldrules.dropped import can_go, dropped, shortest
 from freeworldrules.errors import BadBits, BadFact, BadLetter, BadPermit, BadPlayer, BadRow, BadTerm, NoPart
 from freeworldrules.findings import counts, failures, known, may_stay, needless, never_more, unreached
 from freeworldrules.grounds import Ground
+from freeworldrules.libraries import Library
 from freeworldrules.needs import breaking, compared, needs, never, weakest
 from freeworldrules.orders import exchanges, first_order, hang, nth_order, order_number, orders, row_term
 from freeworldrules.permits import Permits
@@ -73,6 +74,17 @@ FUNCTIONS = [
     ("marks", "marks_of", "(ground)"),
     ("marks", "with_marks", "(ground, some)"),
     ("marks", "resting", "(ground, permits, one, other, relation='same')"),
+    ("libraries", "Library", "(ground, functions=())"),
+    ("libraries", "callers", "(library, name)"),
+    ("libraries", "unlike", "(one, other, permits)"),
+    ("rounds", "rounds", "(ground, permits, row, most=8)"),
+    ("rounds", "is_schedule", "(ground, permits, row, thing)"),
+    ("rounds", "chain", "(ground, permits, row)"),
+    ("weaves", "serial", "(ground, permits, rows, weave)"),
+    ("weaves", "ring", "(ground, permits, rows, weave)"),
+    ("weaves", "weaves", "(ground, permits, rows)"),
+    ("smallest", "alikes", "(ground, permits, term, most)"),
+    ("smallest", "smallest", "(ground, permits, term, most)"),
 ]
 
 METHODS = {
@@ -86,6 +98,8 @@ METHODS = {
     Desk: {"watch": "(self, name, one, other, relation='same')", "unwatch": "(self, name)", "names": "(self)",
            "state": "(self, name)", "permits": "(self)", "allow": "(self, row)", "forbid": "(self, row)",
            "undo": "(self)", "again": "(self)", "would": "(self, rows)"},
+    Library: {"functions": "(self)", "wide": "(self)", "inlined": "(self, term)", "permits": "(self, permits)",
+              "changed": "(self, name, names, body)", "__eq__": "(self, other)"},
 }
 
 
@@ -105,6 +119,7 @@ class TheInterface(unittest.TestCase):
 
     def test_attributes_are_set_on_each_object(self):
         self.assertIn("ground", vars(Permits(Ground({"x": 0}))))
+        self.assertIn("ground", vars(Library(Ground({"x": 0}))))
 
 
 class ByPlaceAndByName(unittest.TestCase):
