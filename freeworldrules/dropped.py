@@ -4,6 +4,7 @@ from freeworldrules.checks import check_ground
 from freeworldrules.relations import end_alike
 from freeworldrules.rows import check_letters
 from freeworldrules.settings import Setting
+from freeworldrules.worlds import ByBits, closed
 
 
 def dropped(ground, row):
@@ -17,7 +18,10 @@ def can_go(ground, permits, row):
     check_ground(ground, permits)
     check_letters(ground, row)
     setting = Setting(ground, permits)
-    return [place for place in range(len(row)) if _can_go(setting, row, place)]
+    doing, fewest = _doing(setting, row)
+    every = list(range(len(row)))
+    return [gone for gone in every if gone not in doing or len(doing) > fewest
+            and _is_alike(setting, row, [place for place in every if place != gone])]
 
 
 def shortest(ground, permits, row):
@@ -25,22 +29,12 @@ def shortest(ground, permits, row):
     check_ground(ground, permits)
     check_letters(ground, row)
     setting = Setting(ground, permits)
-    doing = [place for place, letter in enumerate(row) if _does_anything(setting, letter)]
-    # of what does something at least one has to be left
-    letters = {row[place]: True for place in doing}
-    for many in range(len(letters), len(doing)):
+    doing, fewest = _doing(setting, row)
+    for many in range(fewest, len(doing)):
         for places in _choices(doing, many):
-            left = [row[place] for place in places]
-            if all([letter in left for letter in letters]) and _is_alike(setting, row, places):
-                return left
+            if _is_alike(setting, row, places):
+                return [row[place] for place in places]
     return [row[place] for place in doing]
-
-
-def _can_go(setting, row, place):
-    if not _does_anything(setting, row[place]):
-        return True
-    others = [other for other in range(len(row)) if other != place]
-    return row[place] in [row[other] for other in others] and _is_alike(setting, row, others)
 
 
 def _term(letters):
@@ -50,9 +44,17 @@ def _term(letters):
     return term
 
 
-def _does_anything(setting, letter):
-    """Tells whether evaluating a letter can be seen: what does nothing can go, whatever is around it."""
-    return letter in setting.failing or letter in setting.staying or letter in setting.writing
+def _doing(setting, row):
+    """The list of the places of letters that do anything, and how many of them are needed at least.
+
+    What does nothing can go, whatever is around it. Of what does something, each evaluation has to be met again, for it
+    can fail or stay alone, or is left behind.
+    """
+    doing = [place for place, letter in enumerate(row)
+             if letter in setting.failing or letter in setting.staying or letter in setting.writing]
+    world = ByBits(setting, ())
+    met = world.live(closed([_term(row)]), lambda _: list(world.met))
+    return doing, len({met[place][:2]: True for place in doing})
 
 
 def _is_alike(setting, row, places):

@@ -108,7 +108,7 @@ def _wide(ground, functions):
 
 
 def _check_function(library, name):
-    if not is_name(name) or name not in [function[0] for function in library.functions()]:
+    if name not in [function[0] for function in library.functions()]:
         raise NoFunction(name)
 
 

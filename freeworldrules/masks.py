@@ -1,7 +1,7 @@
 """Permits as integers, a bit for each permission of some letters."""
 
 from freeworldrules.leasts import least_meeting, places_in
-from freeworldrules.permits import in_order, permits_with, rows_always, with_brought
+from freeworldrules.permits import Permits, permits_with, rows_always, with_brought
 from freeworldrules.settings import Setting
 
 
@@ -14,9 +14,8 @@ class Places:
         self.every = [row for row in ground.places if row[1] in among and row[-1] in among]
         self.setting = Setting(ground, self.every)
         place_of = {row: place for place, row in enumerate(self.every)}
-        # what permits always have, of these permissions and of others
+        # what permits always have
         self.always = sum([1 << place_of[row] for row in rows_always(ground) if row in place_of])
-        self.further = [row for row in rows_always(ground) if row not in place_of]
         # a permission with those that it brings
         self.brought = {row: sum([1 << place_of[one] for one in with_brought(row)]) for row in self.every}
 
@@ -26,8 +25,7 @@ class Places:
 
     def permits_in_order(self, masks):
         """The list of the permits with the permissions of masks, by the number of rows, then by their places."""
-        rows = [in_order(self.ground, self.further + self.rows_in(mask)) for mask in masks]
-        return _least_first([permits_with(self.ground, some) for some in rows])
+        return _least_first([Permits(self.ground, self.rows_in(mask)) for mask in masks])
 
     def greatest_without(self, masks):
         """The list of the greatest permits that have none of the masks, in the same order."""
@@ -37,7 +35,6 @@ class Places:
         """What can lack of a mask, a permission with those that bring it; what permits always have cannot."""
         parts = []
         for place in places_in(mask & ~self.always):
-            row = self.every[place]
             parts.append(sum([1 << at for at, one in enumerate(self.every) if self.brought[one] >> place & 1 == 1]))
         return parts
 

@@ -99,6 +99,5 @@ def _do_show(rows, letters, others):
 
 
 def _do_share(rows, letters, others):
-    return any([("shares", one, other) in rows or ("shares", other, one) in rows
-                or one == other and ("writes", one) in rows
+    return any([("shares", one, other) in rows or one == other and ("writes", one) in rows
                 for one in letters for other in others])

@@ -89,8 +89,8 @@ def _is_round(ground, row, thing):
     """Tells whether a thing is a list of letters of a row, one or more, in the order of letters."""
     if not is_list(thing) or len(thing) == 0 or not all([letter in row for letter in thing]):
         return False
-    members = [letter for letter in ground if letter in row]
-    places = [members.index(letter) for letter in thing]
+    letters = list(ground)
+    places = [letters.index(letter) for letter in thing]
     return places == sorted(places)
 
 

@@ -12,10 +12,13 @@ class Setting:
         self.staying = {}
         self.writing = []
         self.sharing = []
-        # from letters to those that show them something, in order
+        # from letters to those that show them something, in order, and to the pairs of these that share
         self.shown = {}
+        self.shared = {}
         for row in rows:
             self._let(row)
+        for letter in self.shown:
+            self.shared[letter] = [pair for pair in self.sharing if self._are_shown(pair, letter)]
 
     def _let(self, row):
         if row[0] == "fails":
@@ -28,6 +31,9 @@ class Setting:
             self.shown.setdefault(row[2], []).append(row[1])
         else:
             self.sharing.append(row[1:])
+
+    def _are_shown(self, pair, letter):
+        return pair[0] in self.shown[letter] and pair[1] in self.shown[letter]
 
     def in_either_order(self, letter, values):
         """The values as they are told apart: for a commuting letter exchanged ones are the same."""
@@ -46,10 +52,8 @@ class Setting:
         """What a letter can see of the evaluations ahead of it."""
         if letter not in self.shown:
             return ()
-        shown = self.shown[letter]
-        alone = [numbers_of(one, recent) for one in shown]
-        pairs = [pairs_of(pair, recent) for pair in self.sharing if pair[0] in shown and pair[1] in shown]
-        return tuple(alone + pairs)
+        alone = [numbers_of(one, recent) for one in self.shown[letter]]
+        return tuple(alone + [pairs_of(pair, recent) for pair in self.shared[letter]])
 
     def recent_behind(self, letter, number, recent):
         """The evaluations (letter, number) of letters that are not fixed, each once, by their last occurrence."""

@@ -65,5 +65,4 @@ class Undecided(Growing):
         met = {letter: True for letter, _ in one + other}
         writes = [("writes", letter) for letter in met if numbers_of(letter, one) != numbers_of(letter, other)]
         shares = [("shares", *pair) for pair in self.setting.sharing if pairs_of(pair, one) != pairs_of(pair, other)]
-        # where it was denied that two share, the numbers are those of permits without it
-        return [row for row in writes + shares if self.answers.get(row) != 0]
+        return writes + shares

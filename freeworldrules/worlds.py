@@ -63,8 +63,7 @@ class World:
         if (letter, told) in setting.known_ends:
             kind, what = setting.known_ends[(letter, told)]
             return behind(kind, what, recent)
-        view = setting.view(letter, recent) if letter in setting.shown else ()
-        return self.evaluate_seen((letter, told, view), values, recent, behind)
+        return self.evaluate_seen((letter, told, setting.view(letter, recent)), values, recent, behind)
 
     def evaluate_seen(self, seen, values, recent, behind):
         """Goes on behind an evaluation that has a number with its letter, values as they are told apart, and view."""

@@ -277,6 +277,7 @@ class WrongThings(unittest.TestCase):
         wrong += [("failed", "z"), ("failed", "e"), ("failed", "x", 1), ("reached",), ("reached", (), ())]
         wrong += [("reached", path) for path in [(2,), (0, 0), (1, 3), (-1,), (True,), (False,), (1, True), ("0",), "", "1",
                                                  0, None, [None], [[]], {}, ((),), (1, (0,)), (10 ** 20,), GROUND]]
+        wrong += [("reach", ()), ("Reached", (1,)), (None, ()), (0, (1,)), ("stays", (1,)), ("fail", (1,)), ("", ())]
         wrong += [("often", "x"), ("often", "z", 1), ("often", ["x"], 1), ("often", None, 1), ("often", 1, "x"),
                   ("often", "x", 1, 1), ("times", "x", 1)]
         wrong += [("often", "x", k) for k in any_objects() + [10, -3, "1", (1,)] if k not in (1, 2, 3) or k is True]

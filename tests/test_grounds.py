@@ -253,6 +253,10 @@ class Equal(unittest.TestCase):
             self.assertFalse(other == ground())
             self.assertTrue(ground() != other)
 
+    def test_letters_in_another_order(self):
+        self.assertNotEqual(Ground({"x": 0, "y": 0}), Ground({"y": 0, "x": 0}))
+        self.assertNotEqual(Ground({"x": 0, "y": 0, "k": 0}, ["k"]), Ground({"x": 0, "k": 0, "y": 0}, ["k"]))
+
     def test_nothing_else(self):
         for thing in any_objects() + [dict(LETTERS), list(LETTERS)]:
             self.assertFalse(ground() == thing)

@@ -11,6 +11,7 @@ from freeworldrules.libraries import Library, callers, unlike
 from freeworldrules.permits import Permits
 from freeworldrules.players import permits_of
 from freeworldrules.rules import holds, ways
+from freeworldrules.runs import evaluations
 from freeworldrules.terms import checked, part_at, parts, size
 from model import Model, random_term
 
@@ -60,6 +61,24 @@ def called_ways(library, permits, term, bits=()):
     if len(world.asked) == len(bits):
         return [(tuple(bits), end)]
     return called_ways(library, permits, term, bits + (0,)) + called_ways(library, permits, term, bits + (1,))
+
+
+def evaluated(library, permits, term, bits):
+    """All evaluations of a term by bits, functions being called."""
+    world = Called(library, permits, bits)
+    world.run(term)
+    return world.history
+
+
+class ByCalls(unittest.TestCase):
+    def check(self, library, permits, term):
+        """An inlined term ends and is evaluated as the functions are called."""
+        told = library.inlined(term)
+        every = ways(library.ground, permits, told)
+        self.assertEqual(every, called_ways(library, permits, term), (library.functions(), term))
+        for bits, _ in every:
+            self.assertEqual(evaluations(library.ground, permits, told, bits), evaluated(library, permits, term, bits),
+                             (library.functions(), term, told))
 
 
 def random_library(chance, ground, most=3):
@@ -169,7 +188,7 @@ class BadFunctions(unittest.TestCase):
         self.bad([ONCE, ONCE, None], 1)
 
 
-class Inlined(unittest.TestCase):
+class Inlined(ByCalls):
     def test_without_functions(self):
         for term in (X, plus(X, A), ("bind", "v", X, y(V))):
             self.assertEqual(LIBRARY.inlined(term), term)
@@ -204,7 +223,7 @@ class Inlined(unittest.TestCase):
         for term in (("bind", "v", X, use("f", A, V)), ("bind", "w", X, ("bind", "v", y(A), use("f", W, V))),
                      ("bind", "w", X, ("bind", "v", y(A), use("g", W, use("g", V, W))))):
             permits = Permits(GROUND, [("fails", "y"), ("writes", "x")])
-            self.assertEqual(ways(GROUND, permits, library.inlined(term)), called_ways(library, permits, term))
+            self.check(library, permits, term)
 
     def test_binds_of_bodies(self):
         # a body that binds its own name again, and one that binds a name of its term
@@ -213,7 +232,22 @@ class Inlined(unittest.TestCase):
         for term in (use("f", X), ("bind", "w", y(X), use("g", W)), use("h", y(X)), use("f", use("f", X)),
                      ("bind", "v", X, use("g", use("h", V)))):
             permits = Permits(GROUND, [("fails", "y"), ("writes", "x"), ("shows", "x", "y")])
-            self.assertEqual(ways(GROUND, permits, library.inlined(term)), called_ways(library, permits, term))
+            self.check(library, permits, term)
+
+    def test_other_names_that_a_body_would_catch(self):
+        # v has to be another name, for which the first ones are bound in bodies
+        named = [("name", name) for name in "abc"]
+        body = ("bind", "a", X, ("bind", "b", y(A), plus(V, plus(named[0], named[1]))))
+        library = Library(GROUND, [("f", ("v",), body), ("g", ("v",), use("f", V)), ("h", ("c",), use("g", named[2]))])
+        permits = Permits(GROUND, [("fails", "y"), ("writes", "x")])
+        for name in ("f", "g", "h"):
+            for bound in ("v", "c", "a"):
+                self.check(library, permits, ("bind", bound, y(B), plus(use(name, ("name", bound)), ("name", bound))))
+
+    def test_names_called_like_letters(self):
+        library = Library(GROUND, [("f", ("plus", "x"), plus(X, plus(("name", "x"), ("name", "plus"))))])
+        for bound in ("plus", "x", "f"):
+            self.check(library, Permits(GROUND), ("bind", bound, y(A), use("f", X, ("name", bound))))
 
     def test_an_earlier_function_twice(self):
         library = Library(GROUND, [("f", ("v",), ("not", V)), ("g", ("v",), plus(use("f", V), use("f", use("f", V)))),
@@ -234,7 +268,7 @@ class Inlined(unittest.TestCase):
             self.assertEqual(checked(ground, told), told)
             if size(ground, told) <= 40:
                 permits = Permits(ground, chance.sample(Permits.full(ground).rows(), chance.randrange(5)))
-                self.assertEqual(ways(ground, permits, told), called_ways(library, permits, term), (library.functions(), term))
+                self.check(library, permits, term)
 
     def test_wrong_terms(self):
         for thing in any_objects():
@@ -413,6 +447,11 @@ class Unlike(unittest.TestCase):
         self.assertEqual(unlike(library, library.changed("f", ("w", "v"), ("if", W, W, V)), self.none), [])
         self.assertEqual(unlike(library, library.changed("f", ("w", "v"), ("if", V, V, W)), self.none), ["f"])
         self.assertEqual(unlike(library, library.changed("f", ("v", "w"), ("or", V, W)), self.none), [])
+
+    def test_names_of_the_body_that_those_of_an_earlier_function_would_catch(self):
+        library = Library(GROUND, [("f", ("v", "w"), ("if", V, W, y(V))), ("g", ("v", "w"), use("f", W, V))])
+        self.assertEqual(unlike(library, library.changed("g", ("v", "w"), ("if", W, V, y(W))), self.none), [])
+        self.assertEqual(unlike(library, library.changed("g", ("v", "w"), ("if", V, W, y(V))), self.none), ["g"])
 
     def test_names_have_values_of_letters_of_their_own(self):
         # whatever the letters of the ground are called, and also if both values are alike

@@ -132,6 +132,15 @@ class Resting(unittest.TestCase):
         self.assertEqual(resting(GROUND, NONE, plus(B, A), C), [(("commutes", "plus"), ("fact", 0))])
         self.assertEqual(resting(GROUND, NONE, k(A), ("fail", "bad")), [(("fact", 1),)])
 
+    def test_a_letter_that_does_not_commute(self):
+        ground = Ground({"x": 0, "y": 0, "minus": 2, "plus": 2}, ["minus", "plus"], ["plus"],
+                        [("minus", ("a", "b"), ("value", "c"))])
+        none = Permits(ground)
+        self.assertEqual(resting(ground, none, ("use", "minus", (A, B)), C), [(("fact", 0),)])
+        self.assertEqual(resting(ground, none, ("use", "minus", (B, A)), C), [])
+        self.assertEqual(resting(ground, none, ("use", "minus", (X, Y)), ("use", "minus", (Y, X))), [])
+        self.assertEqual(resting(ground, none, ("use", "minus", (X, X)), ("use", "minus", (X, X))), [()])
+
     def test_by_two_unlike_sets_of_marks(self):
         # both facts tell the same end, or one is as the other
         ground = Ground({"p": 2, "q": 2}, ["p", "q"], ["p", "q"],

@@ -296,6 +296,15 @@ class Facts(unittest.TestCase):
     def test_for_a_commuting_letter_alone_in_either_order(self):
         self.assertEqual(run(GROUND, NO, minus(B, A)), value(gave("minus")))
 
+    def test_told_in_either_order(self):
+        facts = [("plus", ("b", "a"), ("value", "c")), ("minus", ("b", "a"), ("value", "c")), ("plus", ("b", "c"), ("fail", "e"))]
+        ground = Ground(GROUND.letters(), GROUND.fixed(), ["plus"], facts)
+        for term, end in ((plus(A, B), value(("value", "c"))), (plus(B, A), value(("value", "c"))),
+                          (minus(B, A), value(("value", "c"))), (minus(A, B), value(gave("minus"))),
+                          (plus(("value", "c"), B), ("fails", ("fail", "e"), ())),
+                          (plus(B, ("value", "c")), ("fails", ("fail", "e"), ()))):
+            self.assertEqual(run(ground, Permits(ground), term), end)
+
     def test_values_of_letters_are_told_by_no_fact(self):
         self.assertEqual(run(GROUND, NO, plus(X, B)), value(gave("plus")))
         self.assertEqual(run(GROUND, NO, ("bind", "v", A, plus(("name", "v"), B))), value(("value", "c")))

@@ -176,6 +176,11 @@ class WhichIsFirst(BadTerms):
         self.assertEqual(self.bad_path(("bind", "a", ("not", ("value", "A")), ("name", "b"))), (0, 0))
         self.assertEqual(self.bad_path(("then", ("last", X, ("try", V, ("name", "a"))), 3)), (0, 1, 1))
 
+    def test_within_binds(self):
+        self.assertEqual(self.bad_path(("not", ("bind", "a", 3, 3))), (0, 0))
+        self.assertEqual(self.bad_path(("not", ("bind", "a", X, 3))), (0, 1))
+        self.assertEqual(self.bad_path(("and", X, ("bind", "a", X, ("bind", "b", ("not", ("name", "b")), 3)))), (1, 1, 0, 0))
+
 
 class Parts(unittest.TestCase):
     def test_paths_in_order(self):

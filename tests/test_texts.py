@@ -254,6 +254,11 @@ class Conventions(unittest.TestCase):
             with self.assertRaises(BadText):
                 read(GROUND, f"fail({name})")
 
+    def test_what_is_no_string_has_no_text(self):
+        for thing in any_objects():
+            if not isinstance(thing, str):
+                self.assertRaises(BadText, read, GROUND, thing)
+
     def test_long_texts(self):
         for begun, many in (("f(", 200), ("not(", 100), ("f(x('a, ", 50), ("x(", 199)):
             text = (begun * many)[:400]

@@ -173,6 +173,16 @@ class Numbers(unittest.TestCase):
             alike = [weave for weave in every if serial(GROUND, permits, rows, weave) is not None]
             self.assertEqual(weaves(GROUND, permits, rows), (len(every), len(alike)), (permits.rows(), rows))
 
+    def test_what_comes_to_stand_ahead_of_a_row_later_on(self):
+        # c is ahead of e, then a of d, and so the first row ahead of the third one; e is ahead of b
+        rows = [["a", "b"], ["c", "d"], ["e"]]
+        permits = Permits(GROUND, [("shares", "c", "e"), ("shares", "a", "d"), ("shares", "e", "b")])
+        self.assertEqual(ring(GROUND, permits, rows, ["c", "e", "a", "d", "b"]), (0, 1, 2))
+        every = all_weaves(rows)
+        alike = [weave for weave in every if serial(GROUND, permits, rows, weave) is not None]
+        self.assertEqual(weaves(GROUND, permits, rows), (30, len(alike)))
+        self.assertLess(len(alike), 30)
+
     def test_of_longer_rows(self):
         chance = random.Random(462)
         ground = Ground({letter: 0 for letter in "abcdefg"})
