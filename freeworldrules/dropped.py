@@ -20,8 +20,12 @@ def can_go(ground, permits, row):
     setting = Setting(ground, permits)
     doing, fewest = _doing(setting, row)
     every = list(range(len(row)))
-    return [gone for gone in every if gone not in doing or len(doing) > fewest
-            and _is_alike(setting, row, [place for place in every if place != gone])]
+    found = []
+    for gone in every:
+        left = [place for place in every if place != gone]
+        if gone not in doing or len(doing) > fewest and _is_alike(setting, row, left):
+            found.append(gone)
+    return found
 
 
 def shortest(ground, permits, row):

@@ -37,7 +37,8 @@ def _use(world, term, names, recent, behind):
 
 def _use_with(world, term, values, names, recent, behind):
     """Goes on behind a use, the first parts of which have values already."""
-    for part in term[2][len(values):]:
+    known = len(values)
+    for part in term[2][known:]:
         if part[0] == "value":
             values = (*values, part)
         elif part[0] == "name":
