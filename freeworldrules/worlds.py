@@ -6,7 +6,7 @@ from freeworldrules.steps import FALSE, outcome
 class World:
     """The free world as far as a way has shown it; a way is gone back from where another one leaves it.
 
-    What goes on behind a part is passed on as a function. It tells whether to stop, and then nothing is gone back.
+    What goes on behind a part is passed on as a function. It tells whether to stop; the world is of no use then.
     """
 
     def __init__(self, setting):
