@@ -15,19 +15,21 @@ class Growing(World):
 
     def ask(self, question, behind):
         """Goes on behind a question with 0, and with 1 where a mask can be found that is not known already."""
-        if question in self.answers:
-            return behind(self.answers[question])
-        self.answers[question] = 0
+        answers = self.answers
+        if question in answers:
+            return behind(answers[question])
+        answers[question] = 0
         behind(0)
         before = self.mask
         # a letter may always fail and stay here: what does neither needs no permission
         row = question[:2] if question[0] in ("fails", "stays") else question
-        self.mask = before | self.masks_of.get(row, 0)
+        if row in self.masks_of:
+            self.mask = before | self.masks_of[row]
         if not is_any_within(self.least, self.mask):
-            self.answers[question] = 1
+            answers[question] = 1
             behind(1)
         self.mask = before
-        del self.answers[question]
+        del answers[question]
         return False
 
     def note(self, mask):

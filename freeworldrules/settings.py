@@ -41,13 +41,6 @@ class Setting:
             return tuple(sorted(values))
         return values
 
-    def known_end(self, letter, values):
-        """How a use ends as a fact tells, or None."""
-        # most grounds have no facts, and this is asked at each use
-        if len(self.known_ends) == 0:
-            return None
-        return self.known_ends.get((letter, self.in_either_order(letter, values)))
-
     def view(self, letter, recent):
         """What a letter can see of the evaluations ahead of it."""
         if letter not in self.shown:

@@ -12,13 +12,9 @@ class Undecided(Growing):
         # from letters and values to the evaluations with them: their number, and those ahead of each
         self.first_met = {}
 
-    def use(self, letter, values, recent, behind):
-        """Goes on behind a use of a letter whose parts have these values."""
-        known = self.setting.known_end(letter, values)
-        if known is not None:
-            return behind(known[0], known[1], recent)
-        like = self.first_met.setdefault((letter, self.setting.in_either_order(letter, values)), [])
-        return self.use_like(letter, like, 0, recent, behind)
+    def use_untold(self, letter, values, told, recent, behind):
+        """Goes on behind a use that no fact tells, the values being told apart as they are told."""
+        return self.use_like(letter, self.first_met.setdefault((letter, told), []), 0, recent, behind)
 
     def use_like(self, letter, like, place, recent, behind):
         """Goes on behind an evaluation that is like one of those from a place on, or like none."""

@@ -15,10 +15,10 @@ class Unmarked(Growing):
         """Goes on behind a use of a letter whose parts have these values."""
         marks, end = self.fact_for(letter, values)
         if end is None:
-            return self.use_untold(letter, values, recent, behind)
+            return self.use_in_order(letter, values, recent, behind)
         kind, what = as_outcome(end)
         return self.have_all(marks, 0, lambda has_all: behind(kind, what, recent) if has_all
-                             else self.use_untold(letter, values, recent, behind))
+                             else self.use_in_order(letter, values, recent, behind))
 
     def fact_for(self, letter, values):
         """The list of the marks by which a fact tells how a use ends, and this end; None if no fact does."""
@@ -37,16 +37,12 @@ class Unmarked(Growing):
         return self.ask(marks[place], lambda bit:
                         self.have_all(marks, place + 1, behind) if bit == 0 else behind(False))
 
-    def use_untold(self, letter, values, recent, behind):
-        """Goes on behind an evaluation."""
+    def use_in_order(self, letter, values, recent, behind):
+        """Goes on behind a use that no fact tells, the same one as with exchanged values if the letter commutes."""
         view = self.setting.view(letter, recent)
         exchanged = (letter, values[::-1], view)
         if letter not in self.setting.commutes or exchanged not in self.numbers:
-            return self.use_as_seen(letter, values, view, recent, behind)
+            return self.use_untold(letter, values, values, recent, behind)
         met = (letter, self.numbers[exchanged], values, view)
         return self.ask(("commutes", letter), lambda bit: self.evaluate(met, recent, behind) if bit == 0
-                        else self.use_as_seen(letter, values, view, recent, behind))
-
-    def use_as_seen(self, letter, values, view, recent, behind):
-        """Goes on behind an evaluation with just these values in just this order."""
-        return self.evaluate_seen((letter, values, view), values, recent, behind)
+                        else self.use_untold(letter, values, values, recent, behind))

@@ -59,15 +59,16 @@ class World:
     def use(self, letter, values, recent, behind):
         """Goes on behind a use of a letter whose parts have these values."""
         setting = self.setting
-        told = setting.in_either_order(letter, values) if letter in setting.commutes else values
+        told = setting.in_either_order(letter, values)
         if (letter, told) in setting.known_ends:
             kind, what = setting.known_ends[(letter, told)]
             return behind(kind, what, recent)
-        return self.evaluate_seen((letter, told, setting.view(letter, recent)), values, recent, behind)
+        return self.use_untold(letter, values, told, recent, behind)
 
-    def evaluate_seen(self, seen, values, recent, behind):
-        """Goes on behind an evaluation that has a number with its letter, values as they are told apart, and view."""
-        letter, _, view = seen
+    def use_untold(self, letter, values, told, recent, behind):
+        """Goes on behind a use that no fact tells, the values being told apart as they are told."""
+        view = self.setting.view(letter, recent)
+        seen = (letter, told, view)
         if seen in self.numbers:
             return self.evaluate((letter, self.numbers[seen], values, view), recent, behind)
         number = self.new_number(letter)
